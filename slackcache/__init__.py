@@ -1,0 +1,1 @@
+"""Slackcache: caches below caches whose copies are at most so many writes old."""
