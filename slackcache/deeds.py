@@ -1,16 +1,16 @@
 """The form in which deeds are noted."""
 
-# The number of arguments with which each deed is noted.
-ARGUMENTS = {
-    "join": 3,
-    "write": 2,
-    "read": 4,
-    "change": 3,
-    "deliver": 2,
-    "leave": 1,
-    "crash": 1,
-    "forget": 1,
-    "recover": 1,
+# The number of items with which each deed is noted: its name and its arguments.
+LENGTHS = {
+    "join": 4,
+    "write": 3,
+    "read": 5,
+    "change": 4,
+    "deliver": 3,
+    "leave": 2,
+    "crash": 2,
+    "forget": 2,
+    "recover": 2,
 }
 
 
@@ -18,13 +18,12 @@ def are_pairs(obj, keys):
     """Whether an object is a tuple of pairs, one for each key in order."""
     if not isinstance(obj, tuple) or len(obj) != len(keys):
         return False
-    return all([is_pair(pair, key) for pair, key in zip(obj, keys)])
-
-
-def is_pair(obj, key):
-    if not isinstance(obj, tuple) or len(obj) != 2:
-        return False
-    return isinstance(obj[0], str) and obj[0] == key
+    for pair, key in zip(obj, keys):
+        if not isinstance(pair, tuple) or len(pair) != 2:
+            return False
+        if not isinstance(pair[0], str) or pair[0] != key:
+            return False
+    return True
 
 
 def is_deed(obj, keys):
@@ -32,6 +31,6 @@ def is_deed(obj, keys):
     if not isinstance(obj, tuple) or not obj:
         return False
     verb = obj[0]
-    if not isinstance(verb, str) or verb not in ARGUMENTS or len(obj) != ARGUMENTS[verb] + 1:
+    if not isinstance(verb, str) or len(obj) != LENGTHS.get(verb):
         return False
     return verb != "join" or are_pairs(obj[3], keys)

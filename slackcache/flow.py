@@ -1,111 +1,104 @@
 """How messages travel and what they change."""
 
-from slackcache.state import STORE, Entry, Node
+from slackcache.cache import Cache
+from slackcache.state import Entry
 
 
-def send(state, sender, receiver, message):
-    # What is sent to a node that has left or crashed is lost.
-    if receiver not in state.nodes:
-        return
-    link = (sender, receiver)
-    if link not in state.queues:
-        state.queues[link] = []
-    state.queues[link].append(message)
-
-
-def send_to_children(state, name, message):
-    for child in state.nodes[name].entries:
-        send(state, name, child, message)
-
-
-def send_copies(state, name, child):
-    """Send a child a copy of every key with the allowances that are granted to it."""
-    node = state.nodes[name]
-    for key in state.words:
-        number, value = node.copies[key]
-        send(state, name, child, ("copy", key, number, value, node.entries[child].granted[key]))
-
-
-def has_room(state, key):
-    """Whether the entries of the store allow one more write."""
-    store = state.store()
-    number = store.version(key) + 1
-    return all([number - entry.confirmed[key] <= entry.granted[key] for entry in store.entries.values()])
+def send_to_children(node, message):
+    for entry in node.entries.values():
+        # What is sent to a node that has left or crashed is lost.
+        if entry.there:
+            entry.down.append(message)
 
 
 def accept(state, key, value):
-    number = state.store().version(key) + 1
+    """Accept a write if the entries of the store leave room for it; its number, or None."""
+    top = state.top
     # For the store, told is its number and the allowance is 0.
-    state.store().take_copy(key, number, value, 0)
+    number = top.reported[key] + 1
+    for entry in top.entries.values():
+        if number - entry.confirmed[key] > entry.granted[key]:
+            return None
+    top.reported[key] = number
+    top.copies[key] = (number, value)
     state.accepted.append(key)
-    send_to_children(state, STORE, ("update", key, number, value))
+    send_to_children(top, ("update", key, number, value))
     return number
 
 
-def agree(state, name, key):
-    """Agree to a raise if the node is asked to and can."""
-    node = state.nodes[name]
-    if key in node.asked and node.agrees(key, node.asked[key]):
-        allowance = node.asked.pop(key)
+def agree(node, key):
+    """Agree to a raise if the node can."""
+    allowance = node.asked[key]
+    if node.agrees(key, allowance):
+        del node.asked[key]
         node.slacks[key] = allowance
-        send(state, name, node.above, ("agree", key, allowance))
+        node.row.up.append(("agree", key, allowance))
 
 
-def confirm(state, name, key):
-    """Tell the parent the limit if it is greater than what was told."""
-    node = state.nodes[name]
-    number = node.sayable(key)
-    if number > node.reported[key]:
-        node.reported[key] = number
-        send(state, name, node.above, ("confirm", key, number))
-
-
-def settle(state, name, key):
+def settle(state, node, key):
     """Do what a change of a copy, an allowance or an entry of a node makes possible."""
-    if name == STORE:
-        while state.kept[key] and has_room(state, key):
-            accept(state, key, state.kept[key].pop(0))
-    else:
-        # The agree goes first, so that the limit is that of the new allowance.
-        agree(state, name, key)
-        confirm(state, name, key)
+    if node.row is None:
+        waiting = state.kept[key]
+        while waiting and accept(state, key, waiting[0]) is not None:
+            waiting.pop(0)
+        return
+    # The agree goes first, so that the limit is that of the new allowance.
+    if key in node.asked:
+        agree(node, key)
+    told = node.reported[key]
+    number = node.copies[key][0]
+    # No limit is greater than the number of the copy.
+    if number > told:
+        if node.entries:
+            number = node.sayable(key)
+        if number > told:
+            node.reported[key] = number
+            node.row.up.append(("confirm", key, number))
 
 
-def settle_all(state, name):
+def settle_all(state, node):
     for key in state.words:
-        settle(state, name, key)
+        settle(state, node, key)
 
 
-def add_child(state, name, child, allowances):
-    node = state.nodes[name]
-    state.nodes[child] = Node(name)
-    numbers = {key: node.version(key) for key in state.words}
-    node.entries[child] = Entry(numbers, allowances)
-    send_copies(state, name, child)
-    settle_all(state, name)
+def start_child(state, node, child, row):
+    """Let a child be there, and send it a copy of every key with the granted allowances."""
+    state.nodes[child] = Cache(state.home, child, node.label, row)
+    for key in state.words:
+        number, value = node.copies[key]
+        row.confirmed[key] = number
+        row.down.append(("copy", key, number, value, row.granted[key]))
 
 
-def bring_back(state, name, child):
+def add_child(state, node, child, granted):
+    row = Entry(granted)
+    node.entries[child] = row
+    state.lay_links(node.label, child, row)
+    start_child(state, node, child, row)
+    # One entry more makes nothing possible, so there is nothing to settle.
+
+
+def bring_back(state, node, child):
     """Let a crashed child be there again, without copies and children."""
-    node = state.nodes[name]
-    state.nodes[child] = Node(name)
-    entry = node.entries[child]
-    entry.crashed = False
-    entry.raising = {}
-    for key in state.words:
-        entry.confirmed[key] = node.version(key)
-    send_copies(state, name, child)
-    settle_all(state, name)
+    row = node.entries[child]
+    row.there = True
+    row.crashed = False
+    row.raising.clear()
+    start_child(state, node, child, row)
+    settle_all(state, node)
 
 
-def remove_entries(state, name, child):
-    del state.nodes[name].entries[child]
-    settle_all(state, name)
+def remove_entries(state, node, child):
+    del node.entries[child]
+    state.cut_links(node.label, child)
+    settle_all(state, node)
 
 
 def remove_nodes(state, names):
     """Remove nodes, and lose the answers that must go back through them."""
     for name in names:
+        node = state.nodes[name]
+        node.gone = True
         del state.nodes[name]
     for question in list(state.trails):
         if any([at in names for at in state.trails[question]]):
@@ -113,51 +106,59 @@ def remove_nodes(state, names):
 
 
 def take_leave(state, name):
-    parent = state.nodes[name].above
+    row = state.nodes[name].row
     remove_nodes(state, [name])
+    row.there = False
     # The messages that it has sent stay on their way; those to it are lost.
-    link = (parent, name)
-    if link in state.queues:
-        del state.queues[link]
-    send(state, name, parent, ("gone",))
+    row.down.clear()
+    row.up.append(("gone",))
 
 
 def take_crash(state, name):
+    row = state.nodes[name].row
     names = state.branch(name)
-    state.nodes[state.nodes[name].above].entries[name].crashed = True
+    for at in names:
+        for child in state.nodes[at].entries:
+            state.cut_links(at, child)
     remove_nodes(state, names)
-    for link in list(state.queues):
-        if link[0] in names or link[1] in names:
-            del state.queues[link]
+    row.there = False
+    row.crashed = True
+    row.down.clear()
+    row.up.clear()
 
 
-def ask(state, name, key, need, floor):
+def give(state, node, question, key, need, floor):
+    """Note the receipt of the answer that a node gives, and return the answer."""
+    number, value = node.copies[key]
+    state.receipts[question] = (key, need, floor, number, state.rows_from(node, key))
+    return (number, value, node.label)
+
+
+def ask(state, node, key, need, floor):
     """Give a question its number, and answer it or send it to the parent."""
-    state.questions += 1
-    question = state.questions
-    node = state.nodes[name]
+    question = state.questions + 1
+    state.questions = question
     if node.serves(key, need, floor):
-        state.answered[question] = node.copies[key] + (name,)
+        state.answered[question] = give(state, node, question, key, need, floor)
     else:
-        state.trails[question] = [name]
-        send(state, name, node.above, ("question", question, key, need, floor))
+        state.trails[question] = [node.label]
+        node.row.up.append(("question", question, key, need, floor))
     return question
 
 
-def take_question(state, name, message):
+def hear_question(state, node, sender, message):
     question, key, need, floor = message[1:]
-    node = state.nodes[name]
     on_trail = question in state.trails
     if not node.serves(key, need, floor):
         if on_trail:
-            state.trails[question].append(name)
-        send(state, name, node.above, message)
+            state.trails[question].append(node.label)
+        node.row.up.append(message)
     elif on_trail:
-        receiver = state.trails[question][-1]
-        send(state, name, receiver, ("answer", question) + node.copies[key] + (name,))
+        answer = give(state, node, question, key, need, floor)
+        node.entries[sender].down.append(("answer", question) + answer)
 
 
-def take_answer(state, name, message):
+def hear_answer(state, node, sender, message):
     question = message[1]
     if question not in state.trails:
         return
@@ -166,51 +167,65 @@ def take_answer(state, name, message):
     # the answer is lost if the node goes before.
     trail.pop()
     if trail:
-        send(state, name, trail[-1], message)
+        node.entries[trail[-1]].down.append(message)
     else:
         del state.trails[question]
         state.answered[question] = message[2:]
 
 
-def take_from_parent(state, name, message):
-    """Let a node get a message about a key from its parent."""
-    node = state.nodes[name]
-    kind, key = message[:2]
-    if kind == "copy":
-        number, value, allowance = message[2:]
-        node.take_copy(key, number, value, allowance)
-    elif kind == "update":
-        node.copies[key] = message[2:]
-        send_to_children(state, name, message)
-    elif kind == "lower":
-        node.slacks[key] = message[2]
-    else:
-        node.asked[key] = message[2]
-    settle(state, name, key)
+def hear_copy(state, node, sender, message):
+    key, number, value, allowance = message[1:]
+    node.take_copy(key, number, value, allowance)
+    settle(state, node, key)
 
 
-def take_from_child(state, name, child, message):
-    """Let a node get a message about a key from its child."""
-    entry = state.nodes[name].entries[child]
-    kind, key, worth = message
-    if kind == "confirm":
-        entry.confirmed[key] = worth
-    else:
-        entry.granted[key] = worth
-        del entry.raising[key]
-    settle(state, name, key)
+def hear_update(state, node, sender, message):
+    key = message[1]
+    node.copies[key] = message[2:]
+    if node.entries:
+        send_to_children(node, message)
+    settle(state, node, key)
 
 
-def take(state, sender, receiver, message):
-    """Let a message arrive."""
-    match message[0]:
-        case "question":
-            take_question(state, receiver, message)
-        case "answer":
-            take_answer(state, receiver, message)
-        case "gone":
-            remove_entries(state, receiver, sender)
-        case "confirm" | "agree":
-            take_from_child(state, receiver, sender, message)
-        case _:
-            take_from_parent(state, receiver, message)
+def hear_lower(state, node, sender, message):
+    key = message[1]
+    node.slacks[key] = message[2]
+    settle(state, node, key)
+
+
+def hear_raise(state, node, sender, message):
+    key = message[1]
+    node.asked[key] = message[2]
+    settle(state, node, key)
+
+
+def hear_confirm(state, node, sender, message):
+    key = message[1]
+    node.entries[sender].confirmed[key] = message[2]
+    settle(state, node, key)
+
+
+def hear_agree(state, node, sender, message):
+    key = message[1]
+    entry = node.entries[sender]
+    entry.granted[key] = message[2]
+    del entry.raising[key]
+    settle(state, node, key)
+
+
+def hear_gone(state, node, sender, message):
+    remove_entries(state, node, sender)
+
+
+# What a message does at the node at which it arrives.
+ARRIVALS = {
+    "copy": hear_copy,
+    "update": hear_update,
+    "lower": hear_lower,
+    "raise": hear_raise,
+    "answer": hear_answer,
+    "confirm": hear_confirm,
+    "agree": hear_agree,
+    "question": hear_question,
+    "gone": hear_gone,
+}

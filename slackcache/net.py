@@ -1,6 +1,5 @@
 """The net: a store, the nodes below it, and the deeds that are done on them."""
 
-from slackcache.cache import Cache
 from slackcache.deeds import is_deed
 from slackcache.errors import (
     Busy,
@@ -25,27 +24,18 @@ from slackcache.errors import (
     UnknownQuestion,
 )
 from slackcache.flow import (
+    ARRIVALS,
     accept,
     add_child,
     ask,
     bring_back,
-    has_room,
     remove_entries,
-    send,
     settle,
-    take,
     take_crash,
     take_leave,
 )
 from slackcache.state import STORE, State
-from slackcache.words import (
-    are_allowances,
-    are_keys,
-    is_allowance,
-    is_integer,
-    is_integer_within,
-    is_word,
-)
+from slackcache.words import are_allowances, are_keys, is_allowance, is_integer_within, is_word
 
 MOST_WAITING = 20
 GREATEST_NEED = 999
@@ -60,7 +50,7 @@ class Net:
         if not are_keys(keys):
             raise InvalidKeys(keys)
         self.words = tuple(keys)
-        self.core = State(self.words)
+        self.core = State(self, self.words)
         self.done = []
 
     @property
@@ -86,8 +76,10 @@ class Net:
         return isinstance(x, str) and x in self.core.nodes
 
     def __getitem__(self, at):
-        self.check_node(at)
-        return Cache(self, at)
+        nodes = self.core.nodes
+        if not isinstance(at, str) or at not in nodes:
+            raise UnknownNode(at)
+        return nodes[at]
 
     def __iter__(self):
         raise TypeError("a net is not iterated over")
@@ -95,13 +87,9 @@ class Net:
     def __eq__(self, other):
         return isinstance(other, Net) and self.words == other.words and self.done == other.done
 
-    def check_node(self, name):
-        if name not in self:
-            raise UnknownNode(name)
-
     def check_lower_node(self, name):
         """Check that a node is there and is not the store."""
-        if name not in self or name == STORE:
+        if not isinstance(name, str) or name not in self.core.nodes or name == STORE:
             raise UnknownNode(name)
 
     def check_key(self, key):
@@ -109,87 +97,96 @@ class Net:
             raise UnknownKey(key)
 
     def check_need(self, key, need, floor):
-        if not is_integer_within(need, 0, GREATEST_NEED):
+        if not isinstance(need, int) or isinstance(need, bool) or not 0 <= need <= GREATEST_NEED:
             raise InvalidNeed(need)
-        if not is_integer_within(floor, 0, self.core.store().version(key)):
+        number = self.core.top.copies[key][0]
+        if not isinstance(floor, int) or isinstance(floor, bool) or not 0 <= floor <= number:
             raise InvalidNeed(floor)
 
     def join(self, name, parent, allowances):
         if not is_word(name):
             raise InvalidName(name)
-        if self.core.is_taken(name):
+        state = self.core
+        if state.is_taken(name):
             raise NameTaken(name)
-        self.check_node(parent)
+        if not isinstance(parent, str) or parent not in state.nodes:
+            raise UnknownNode(parent)
         if not are_allowances(allowances, self.words):
             raise InvalidAllowance(allowances)
-        if len(self) >= Net.MOST:
+        if len(state.nodes) >= Net.MOST:
             raise LimitExceeded(Net.MOST)
-        above = self.core.nodes[parent]
+        above = state.nodes[parent]
         if len(above.copies) < len(self.words):
             raise NotReady(parent)
+        granted = {}
         for key in self.words:
-            if allowances[key] < above.slacks[key]:
+            granted[key] = allowances[key]
+            if granted[key] < above.slacks[key]:
                 raise TooLow(above.slacks[key])
-        pairs = [(key, allowances[key]) for key in self.words]
-        add_child(self.core, parent, name, dict(pairs))
-        self.done.append(("join", name, parent, tuple(pairs)))
+        self.done.append(("join", name, parent, tuple(granted.items())))
+        add_child(state, above, name, granted)
 
     def write(self, key, value):
         """Return the new number, or None if the write waits."""
-        self.check_key(key)
-        if not is_integer(value):
+        if not isinstance(key, str) or key not in self.words:
+            raise UnknownKey(key)
+        if not isinstance(value, int) or isinstance(value, bool):
             raise InvalidValue(value)
-        if len(self.core.kept[key]) >= MOST_WAITING:
+        state = self.core
+        if len(state.kept[key]) >= MOST_WAITING:
             raise LimitExceeded(MOST_WAITING)
         self.done.append(("write", key, value))
-        if has_room(self.core, key):
-            return accept(self.core, key, value)
-        self.core.kept[key].append(value)
-        return None
+        number = accept(state, key, value)
+        if number is None:
+            state.kept[key].append(value)
+        return number
 
     def read(self, name, key, need, *, floor=0):
         """Return the question number."""
-        self.check_node(name)
-        self.check_key(key)
+        nodes = self.core.nodes
+        if not isinstance(name, str) or name not in nodes:
+            raise UnknownNode(name)
+        if not isinstance(key, str) or key not in self.words:
+            raise UnknownKey(key)
         self.check_need(key, need, floor)
         self.done.append(("read", name, key, need, floor))
-        return ask(self.core, name, key, need, floor)
+        return ask(self.core, nodes[name], key, need, floor)
 
     def change(self, name, key, allowance):
         self.check_lower_node(name)
         self.check_key(key)
         if not is_allowance(allowance):
             raise InvalidAllowance(allowance)
-        parent = self.core.nodes[name].above
-        node = self.core.nodes[parent]
-        entry = node.entries[name]
+        state = self.core
+        entry = state.nodes[name].row
         if key in entry.raising:
             raise Busy(name)
         if allowance < entry.granted[key]:
-            least = node.least_grant(name, key)
+            node = state.nodes[state.nodes[name].above]
+            least = node.least_grant(entry, key)
             if allowance < least:
                 raise TooLow(least)
             entry.granted[key] = allowance
-            send(self.core, parent, name, ("lower", key, allowance))
-            settle(self.core, parent, key)
+            entry.down.append(("lower", key, allowance))
+            settle(state, node, key)
         elif allowance > entry.granted[key]:
             entry.raising[key] = True
-            send(self.core, parent, name, ("raise", key, allowance))
+            entry.down.append(("raise", key, allowance))
         self.done.append(("change", name, key, allowance))
 
     def deliver(self, sender, receiver):
         """Deliver the first message of a link and return it."""
-        queue = self.messages(sender, receiver)
+        if not isinstance(sender, str) or not isinstance(receiver, str):
+            raise NoMessage(sender, receiver)
+        state = self.core
+        queue = state.queues.get((sender, receiver))
         if not queue:
             raise NoMessage(sender, receiver)
-        link = (sender, receiver)
-        if len(queue) == 1:
-            del self.core.queues[link]
-        else:
-            self.core.queues[link] = queue[1:]
-        take(self.core, sender, receiver, queue[0])
+        message = queue.pop(0)
+        arrive = ARRIVALS[message[0]]
+        arrive(state, state.nodes[receiver], sender, message)
         self.done.append(("deliver", sender, receiver))
-        return queue[0]
+        return message
 
     def leave(self, name):
         self.check_lower_node(name)
@@ -216,7 +213,7 @@ class Net:
         self.done.append(("recover", name))
 
     def find_keeper(self, name):
-        """The name of the node that keeps the entries of a crashed node."""
+        """The node that keeps the entries of a crashed node of this name."""
         parent = None
         if isinstance(name, str):
             parent = self.core.keeper(name)
@@ -228,26 +225,25 @@ class Net:
         """Do a deed as it is noted, and return its result."""
         if not is_deed(deed, self.words):
             raise InvalidDeed(deed)
-        verb, *rest = deed
-        match verb:
-            case "join":
-                return self.join(rest[0], rest[1], dict(rest[2]))
-            case "write":
-                return self.write(rest[0], rest[1])
-            case "read":
-                return self.read(rest[0], rest[1], rest[2], floor=rest[3])
-            case "change":
-                return self.change(rest[0], rest[1], rest[2])
+        match deed[0]:
             case "deliver":
-                return self.deliver(rest[0], rest[1])
+                return self.deliver(deed[1], deed[2])
+            case "write":
+                return self.write(deed[1], deed[2])
+            case "read":
+                return self.read(deed[1], deed[2], deed[3], floor=deed[4])
+            case "change":
+                return self.change(deed[1], deed[2], deed[3])
+            case "join":
+                return self.join(deed[1], deed[2], dict(deed[3]))
             case "leave":
-                return self.leave(rest[0])
+                return self.leave(deed[1])
             case "crash":
-                return self.crash(rest[0])
+                return self.crash(deed[1])
             case "forget":
-                return self.forget(rest[0])
+                return self.forget(deed[1])
             case _:
-                return self.recover(rest[0])
+                return self.recover(deed[1])
 
     def answer(self, question):
         """A tuple (number, value, name), or None if there is no answer (yet)."""
@@ -257,7 +253,7 @@ class Net:
 
     def number(self, key):
         self.check_key(key)
-        return self.core.store().version(key)
+        return self.core.top.copies[key][0]
 
     def waiting(self, key):
         """The values of the writes that wait, in order."""
@@ -266,12 +262,14 @@ class Net:
 
     def age(self, name, key):
         """How many writes the copy of a node lacks."""
-        self.check_node(name)
-        self.check_key(key)
-        node = self.core.nodes[name]
-        if key not in node.copies:
+        nodes = self.core.nodes
+        if not isinstance(name, str) or name not in nodes:
+            raise UnknownNode(name)
+        copies = nodes[name].copies
+        if not isinstance(key, str) or key not in copies:
+            self.check_key(key)
             raise NoCopy(key)
-        return self.core.store().version(key) - node.version(key)
+        return self.core.top.copies[key][0] - copies[key][0]
 
     def messages(self, sender, receiver):
         """The messages of a link in order; none for any other objects."""
@@ -281,13 +279,16 @@ class Net:
 
     def links(self):
         """The links that have messages, in ascending order."""
-        for link in sorted(list(self.core.queues)):
-            yield link
+        busy = []
+        for link, queue in self.core.queues.items():
+            if queue:
+                busy.append(link)
+        yield from sorted(busy)
 
     def copy(self):
         """An independent net with the same history."""
         twin = Net(self.words)
-        twin.core = self.core.copied()
+        twin.core = self.core.copied(twin)
         twin.done = list(self.done)
         return twin
 

@@ -1,6 +1,5 @@
 """What counts as an integer, a word, the keys of a net and allowances."""
 
-LETTERS = "abcdefghijklmnopqrstuvwxyz"
 LONGEST_WORD = 8
 MOST_KEYS = 4
 GREATEST_ALLOWANCE = 99
@@ -11,13 +10,13 @@ def is_integer(obj):
 
 
 def is_integer_within(obj, low, high):
-    return is_integer(obj) and low <= obj <= high
+    return isinstance(obj, int) and not isinstance(obj, bool) and low <= obj <= high
 
 
 def is_word(obj):
-    if not isinstance(obj, str) or not 1 <= len(obj) <= LONGEST_WORD:
+    if not isinstance(obj, str) or len(obj) > LONGEST_WORD:
         return False
-    return all([letter in LETTERS for letter in obj])
+    return obj.isascii() and obj.isalpha() and obj.islower()
 
 
 def are_keys(obj):
@@ -29,10 +28,13 @@ def are_keys(obj):
 
 
 def is_allowance(obj):
-    return is_integer_within(obj, 1, GREATEST_ALLOWANCE)
+    return isinstance(obj, int) and not isinstance(obj, bool) and 1 <= obj <= GREATEST_ALLOWANCE
 
 
 def are_allowances(obj, keys):
     if not isinstance(obj, dict) or len(obj) != len(keys):
         return False
-    return all([key in obj and is_allowance(obj[key]) for key in keys])
+    for key in keys:
+        if key not in obj or not is_allowance(obj[key]):
+            return False
+    return True

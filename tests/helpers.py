@@ -59,7 +59,8 @@ def inner(obj):
     if isinstance(obj, (list, tuple)):
         return [type(obj).__name__] + [inner(item) for item in obj]
     if hasattr(obj, "__dict__") and not isinstance(obj, type):
-        return [type(obj).__name__, inner(vars(obj))]
+        # The nodes of a net lead back to it.
+        return [type(obj).__name__, inner({name: vars(obj)[name] for name in vars(obj) if name != "home"})]
     return (type(obj).__name__, obj)
 
 
@@ -91,9 +92,8 @@ def picture(net):
     return [net.key_names, rows, sent, waiting, net.order, answers(net), net.history, len(net)]
 
 
-def check_refused(case, net, error, fields, call, *args, **more):
-    """Check that a call raises just this error, with these very objects, and changes nothing."""
-    before = (picture(net), inner(net))
+def check_raised(case, error, fields, call, *args, **more):
+    """Check that a call raises just this error, with these very objects."""
     caught = None
     try:
         call(*args, **more)
@@ -106,4 +106,10 @@ def check_refused(case, net, error, fields, call, *args, **more):
         if found is not given:
             case.assertIs(type(found), type(given))
             case.assertEqual(found, given)
+
+
+def check_refused(case, net, error, fields, call, *args, **more):
+    """Check that a call raises just this error, with these very objects, and changes nothing."""
+    before = (picture(net), inner(net))
+    check_raised(case, error, fields, call, *args, **more)
     case.assertEqual((picture(net), inner(net)), before)

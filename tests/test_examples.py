@@ -39,6 +39,52 @@ CACHE_SHOWS = """
 """
 
 
+CUTS = """
+>>> from slackcache.cuts import Cut, find_bar
+>>> order = ('price', 'price', 'size', 'price')
+>>> cut = Cut(order, {'price': 3, 'size': 0})
+>>> [cut.spread, cut.nearest, cut.seen, sorted(find_bar(cut)), cut.distance(0), Cut(order, {'price': 2, 'size': 1}).seen]
+[1, 2, None, ['price', 'size'], 3, (3, 3)]
+"""
+
+SESSIONS = """
+>>> from slackcache.net import Net
+>>> from slackcache.sessions import Session
+>>> net = Net(['price'])
+>>> net.join('north', 'store', {'price': 2})
+>>> message = net.deliver('store', 'north')
+>>> session = Session(net)
+>>> number = session.write('price', 5)
+>>> session.move('north')
+>>> question = session.read('price', 9)
+>>> early = session.take(question)
+>>> messages = [net.deliver('north', 'store'), net.deliver('store', 'north'), net.deliver('store', 'north')]
+>>> [early, session.take(question), session.floor('price'), session.pending]
+[None, (1, 5), 1, ()]
+"""
+
+RECEIPTS = """
+>>> from slackcache.net import Net
+>>> from slackcache.receipts import judge, shown_age, receipt_of
+>>> net = Net(['price'])
+>>> net.join('north', 'store', {'price': 2})
+>>> message = net.deliver('store', 'north')
+>>> numbers = [net.write('price', 5), net.read('north', 'price', 2)]
+>>> receipt = receipt_of(net, 1)
+>>> [receipt, judge(receipt), shown_age(receipt), judge(receipt[:3] + (9,) + receipt[4:])]
+[('price', 2, 0, 0, (('north', 0, 2, 0, 2), ('store', 1))), True, 2, False]
+"""
+
+LOGBOOK = """
+>>> from slackcache.logbook import Logbook, first_wrong
+>>> book = Logbook(['price'])
+>>> results = [book.act(('join', 'north', 'store', (('price', 2),))), book.act(('copy', 'north', 'price')), book.act(('write', 'price', 4))]
+>>> log = book.noted
+>>> [results, first_wrong(['price'], log), first_wrong(['price'], log[:2] + [(('write', 'price', 4), 2)])]
+[[None, ('error', 'NoCopy'), 1], None, 2]
+"""
+
+
 def run_example(case, text):
     example = doctest.DocTestParser().get_doctest(text, {}, "example", None, 0)
     report = []
@@ -56,6 +102,18 @@ class ExampleTest(unittest.TestCase):
 
     def test_cache(self):
         run_example(self, CACHE_SHOWS)
+
+    def test_cuts(self):
+        run_example(self, CUTS)
+
+    def test_sessions(self):
+        run_example(self, SESSIONS)
+
+    def test_receipts(self):
+        run_example(self, RECEIPTS)
+
+    def test_logbook(self):
+        run_example(self, LOGBOOK)
 
     def test_the_readme(self):
         with open(README, encoding="utf-8") as file:

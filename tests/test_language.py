@@ -17,7 +17,10 @@ BARRED_NAMES = (
     "getattr", "globals", "hasattr", "help", "id", "importlib", "license", "locals", "methodcaller", "os", "quit",
     "setattr", "super", "vars", "hash", "map", "filter", "round", "print", "callable", "format", "sys", "float",
 )
-DOUBLE = ("__init__", "__eq__", "__len__", "__contains__", "__getitem__", "__iter__", "__rshift__")
+DOUBLE = (
+    "__init__", "__eq__", "__len__", "__contains__", "__getitem__", "__iter__", "__rshift__", "__or__", "__and__",
+    "__bool__",
+)
 
 
 def sources():

@@ -1,0 +1,88 @@
+"""Logs of acts and their results, and the first wrong entry of one."""
+
+from slackcache.acts import is_act, outcome
+from slackcache.errors import InvalidDeed, InvalidLog
+from slackcache.net import Net
+from slackcache.words import is_integer
+
+LONGEST_LOG = 5000
+
+
+def fresh(obj):
+    """The same object, but with new lists and dicts."""
+    if isinstance(obj, list):
+        return [fresh(item) for item in obj]
+    if isinstance(obj, tuple):
+        return tuple([fresh(item) for item in obj])
+    if isinstance(obj, dict):
+        return {key: fresh(obj[key]) for key in obj}
+    return obj
+
+
+def is_refusal(result):
+    """Whether a result of an act stands for an error."""
+    return isinstance(result, tuple) and result[0] == "error"
+
+
+def noted_pair(act, result):
+    """What is noted of an act: lists and dicts are new, but for those within a refused act."""
+    return (act if is_refusal(result) else fresh(act), fresh(result))
+
+
+class Logbook:
+    def __init__(self, keys):
+        self.net = Net(keys)
+        self.pairs = []
+
+    def act(self, act):
+        """Do an act and return its result."""
+        if not is_act(act, self.net.key_names):
+            raise InvalidDeed(act)
+        result = outcome(self.net, act)
+        self.pairs.append(noted_pair(act, result))
+        return result
+
+    @property
+    def noted(self):
+        return [noted_pair(act, result) for act, result in self.pairs]
+
+    def __len__(self):
+        return len(self.pairs)
+
+
+def is_same(obj, result):
+    """Whether any object is equal to a result, also in the kinds of all objects in it."""
+    if result is None:
+        return obj is None
+    if isinstance(result, str):
+        return isinstance(obj, str) and obj == result
+    if is_integer(result):
+        return is_integer(obj) and obj == result
+    if isinstance(result, list):
+        return isinstance(obj, list) and are_same(obj, result)
+    return isinstance(obj, tuple) and are_same(obj, result)
+
+
+def are_same(items, results):
+    if len(items) != len(results):
+        return False
+    return all([is_same(item, result) for item, result in zip(items, results)])
+
+
+def is_right(net, obj):
+    """Whether an object is a pair of an act and its result; the act is done on the net."""
+    if not isinstance(obj, tuple) or len(obj) != 2:
+        return False
+    act, result = obj
+    return is_act(act, net.key_names) and is_same(result, outcome(net, act))
+
+
+def first_wrong(keys, log):
+    """The index of the first element of a log that is not right, or None."""
+    net = Net(keys)
+    if not isinstance(log, list) or len(log) > LONGEST_LOG:
+        raise InvalidLog(log)
+    for index, item in enumerate(log):
+        if not is_right(net, item):
+            return index
+    return None
