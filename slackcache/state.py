@@ -60,13 +60,13 @@ class State:
         """This state as that of another net."""
         twin = State(home, self.words)
         twin.top = self.top.copied(home, None)
-        nodes = {STORE: twin.top}
+        found = {STORE: twin.top}
         for name, node in self.nodes.items():
             if node.row is not None:
-                nodes[name] = node.copied(home, nodes[node.above].entries[name])
-        twin.nodes = nodes
+                found[name] = node.copied(home, found[node.above].entries[name])
+        twin.nodes = found
         twin.queues = {link: list(self.queues[link]) for link in self.queues}
-        for name, node in nodes.items():
+        for name, node in found.items():
             for child, row in node.entries.items():
                 row.down = twin.queues[(name, child)]
                 row.up = twin.queues[(child, name)]

@@ -182,6 +182,16 @@ class LeaveTest(unittest.TestCase):
         for call in (net.forget, net.recover):
             check_refused(self, net, NotCrashed, {"node": "north"}, call, "north")
 
+    def test_a_node_that_recovered_and_then_left_is_not_crashed(self):
+        net = tree(("north", "store", 2))
+        net.crash("north")
+        net.recover("north")
+        net.leave("north")
+        for call in (net.forget, net.recover):
+            check_refused(self, net, NotCrashed, {"node": "north"}, call, "north")
+        drain(net)
+        self.assertEqual((net.names, net["store"].children), (("store",), ()))
+
     def test_the_gone_lets_the_parent_agree_and_confirm_key_by_key(self):
         self.check_key_by_key(lambda net: net.leave("oslo"), lambda net: deliver_all(net, "oslo", "north"))
 

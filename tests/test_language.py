@@ -1,4 +1,4 @@
-"""Those rules of the language that are quickly checked: L1, L2, L8, L9, L10, L12, L14, L16, L17, L18, L20."""
+"""Those rules of the language that are quickly checked: L1, L2, L5, L8 to L10, L12, L14, L16 to L18, L20, L25."""
 
 import ast
 import os
@@ -107,6 +107,20 @@ class LanguageTest(unittest.TestCase):
                 self.assertIsInstance(node.exc.func, ast.Name)
             if isinstance(node, ast.ExceptHandler):
                 self.assertIsNotNone(node.type)
+
+    def test_classes_with_an_index_say_that_they_are_not_iterated_over(self):
+        for name, node in self.nodes():
+            if isinstance(node, ast.ClassDef):
+                methods = [row.name for row in node.body if isinstance(row, ast.FunctionDef)]
+                self.assertEqual("__getitem__" in methods, "__iter__" in methods, (name, node.name))
+
+    def test_calls_beside_operators_and_comparisons(self):
+        for name, node in self.nodes():
+            if isinstance(node, ast.Call) and isinstance(node.func, ast.Name):
+                if node.func.id in ("sum", "min", "max", "any", "all", "sorted"):
+                    self.assertFalse(any(isinstance(row, ast.GeneratorExp) for row in node.args), name)
+            if isinstance(node, ast.Call) and isinstance(node.func, ast.Attribute):
+                self.assertNotIn(node.func.attr, ("sort", "format"), name)
 
     def nodes(self):
         for name, text in sources().items():
