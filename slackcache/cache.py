@@ -3,6 +3,36 @@
 from slackcache.errors import NoCopy, UnknownKey, UnknownNode
 
 
+class Entry:
+    """What a node keeps of one child, and the messages between the two."""
+
+    def __init__(self, above, child, cells):
+        # The name of the parent, and the links to the child and from it.
+        self.above = above
+        self.down_link = (above, child)
+        self.up_link = (child, above)
+        # By keys, the tuples (confirmed, granted).
+        self.cells = cells
+        # A key stands here from the raise that is sent to the agree that arrives.
+        self.raising = ()
+        # A child that is not there and has not crashed has left.
+        self.there = True
+        self.crashed = False
+        # The messages to the child and those from it.
+        self.down = []
+        self.up = []
+
+
+def copied_entry(row):
+    twin = Entry(row.above, row.up_link[0], dict(row.cells))
+    twin.raising = row.raising
+    twin.there = row.there
+    twin.crashed = row.crashed
+    twin.down = list(row.down)
+    twin.up = list(row.up)
+    return twin
+
+
 class Cache:
     """The net holds its nodes as these very objects, so that nothing is made for a look.
 
@@ -10,46 +40,45 @@ class Cache:
     node of this name is there again, it shows that one.
     """
 
-    def __init__(self, home, label, above, row):
+    def __init__(self, home, label, above, row, cells):
         # The net, the name of the parent, and the entry there (None for the store).
         self.home = home
         self.label = label
         self.above = above
         self.row = row
-        # Whether the node has left or crashed.
+        # Whether the node has left or crashed; it has no cells and no entries then.
         self.gone = False
-        # By keys; a key is missing here as long as there is no copy of it.
-        self.copies = {}
-        self.slacks = {}
-        self.reported = {}
-        # The allowances that it was asked to agree to and has not agreed to.
-        self.asked = {}
-        # By children, in the order in which they joined.
+        # By keys, the tuples (copy, allowance, told, the allowance that it was asked to agree
+        # to or None), or None as long as there is no copy.
+        self.cells = cells
+        # By children, in the order in which they joined; and their names.
         self.entries = {}
+        self.kids = ()
 
-    def copied(self, home, row):
-        """This node as a node of another net, with the entry there."""
-        twin = Cache(home, self.label, self.above, row)
-        twin.copies = dict(self.copies)
-        twin.slacks = dict(self.slacks)
-        twin.reported = dict(self.reported)
-        twin.asked = dict(self.asked)
-        twin.entries = {child: self.entries[child].copied() for child in self.entries}
-        return twin
+    def vanish(self):
+        """Show nothing any more, so that looks need not ask each time whether the node is there."""
+        self.gone = True
+        self.cells = {}
+        self.entries = {}
+        self.kids = ()
 
     def seek(self):
         """The node of this name that is there."""
         if not self.gone:
             return self
-        nodes = self.home.core.nodes
+        nodes = self.home.nodes
         if self.label not in nodes:
             raise UnknownNode(self.label)
         return nodes[self.label]
 
-    def refuse_key(self, key):
-        """Raise the error of a look at a key of which there is no copy."""
-        self.home.check_key(key)
-        raise NoCopy(key)
+    def cell(self, key):
+        """The cell of a key that this object does not have; raises the error of the look if there is none."""
+        node = self.seek() if self.gone else self
+        if not isinstance(key, str) or key not in node.cells:
+            raise UnknownKey(key)
+        if node.cells[key] is None:
+            raise NoCopy(key)
+        return node.cells[key]
 
     @property
     def name(self):
@@ -61,23 +90,34 @@ class Cache:
 
     @property
     def children(self):
-        return tuple(self.seek().entries)
+        return self.seek().kids if self.gone else self.kids
+
+    # The looks below ask the own cells first: they are those of the node unless it is gone.
 
     def __contains__(self, x):
-        node = self.seek() if self.gone else self
-        return isinstance(x, str) and x in node.copies
+        if isinstance(x, str):
+            try:
+                return self.cells[x] is not None
+            except KeyError:
+                pass
+        return self.gone and x in self.seek()
 
     def __getitem__(self, at):
-        node = self.seek() if self.gone else self
-        if not isinstance(at, str) or at not in node.copies:
-            self.refuse_key(at)
-        return node.copies[at]
+        if isinstance(at, str):
+            try:
+                cell = self.cells[at]
+                if cell is not None:
+                    return cell[0]
+            except KeyError:
+                pass
+        return self.cell(at)[0]
 
     def __iter__(self):
         raise TypeError("a cache is not iterated over")
 
     def __len__(self):
-        return len(self.seek().copies)
+        cells = self.seek().cells
+        return len([key for key in cells if cells[key] is not None])
 
     def __rshift__(self, other):
         node = self.seek()
@@ -89,22 +129,35 @@ class Cache:
         return isinstance(other, Cache) and self.label == other.label and self.home == other.home
 
     def allowance(self, key):
-        node = self.seek() if self.gone else self
-        if not isinstance(key, str) or key not in node.slacks:
-            self.refuse_key(key)
-        return node.slacks[key]
+        if isinstance(key, str):
+            try:
+                cell = self.cells[key]
+                if cell is not None:
+                    return cell[1]
+            except KeyError:
+                pass
+        return self.cell(key)[1]
 
     def told(self, key):
-        node = self.seek() if self.gone else self
-        if not isinstance(key, str) or key not in node.reported:
-            self.refuse_key(key)
-        return node.reported[key]
+        if isinstance(key, str):
+            try:
+                cell = self.cells[key]
+                if cell is not None:
+                    return cell[2]
+            except KeyError:
+                pass
+        return self.cell(key)[2]
 
     def bound(self, key):
-        node = self.seek() if self.gone else self
-        if not isinstance(key, str) or key not in node.copies:
-            self.refuse_key(key)
-        return node.reported[key] + node.slacks[key] - node.copies[key][0]
+        cell = None
+        if isinstance(key, str):
+            try:
+                cell = self.cells[key]
+            except KeyError:
+                pass
+        if cell is None:
+            cell = self.cell(key)
+        return cell[2] + cell[1] - cell[0][0]
 
     def can_answer(self, key, need, *, floor=0):
         node = self.seek()
@@ -114,46 +167,37 @@ class Cache:
 
     def entry(self, child, key):
         """What the child confirmed and what is granted to it."""
-        node = self.seek() if self.gone else self
-        if not isinstance(child, str) or child not in node.entries:
+        entries = self.seek().entries if self.gone else self.entries
+        if not isinstance(child, str) or child not in entries:
             raise UnknownNode(child)
-        row = node.entries[child]
-        if not isinstance(key, str) or key not in row.granted:
+        cells = entries[child].cells
+        if not isinstance(key, str) or key not in cells:
             raise UnknownKey(key)
-        return (row.confirmed[key], row.granted[key])
-
-    def take_copy(self, key, number, value, allowance):
-        self.copies[key] = (number, value)
-        self.slacks[key] = allowance
-        self.reported[key] = number
+        return cells[key]
 
     def serves(self, key, need, floor):
         """Whether the node can answer this need and floor."""
-        if key not in self.copies:
+        if self.cells[key] is None:
             return False
-        number = self.copies[key][0]
-        return number >= floor and self.reported[key] + self.slacks[key] - number <= need
-
-    def sayable(self, key):
-        """The greatest number that may be told to the parent (the limit)."""
-        own = self.slacks[key]
-        limit = self.copies[key][0]
-        for entry in self.entries.values():
-            room = entry.granted[key] + entry.confirmed[key] - own
-            if room < limit:
-                limit = room
-        return limit
+        copy, allowance, told, asked = self.cells[key]
+        return copy[0] >= floor and told + allowance - copy[0] <= need
 
     def agrees(self, key, allowance):
         """Whether the entries leave room for this greater allowance."""
-        reach = self.reported[key] + allowance
-        for entry in self.entries.values():
-            granted = entry.granted[key]
-            if allowance > granted or reach - entry.confirmed[key] > granted:
+        told = self.cells[key][2]
+        for row in self.entries.values():
+            confirmed, granted = row.cells[key]
+            if allowance > granted or told + allowance - confirmed > granted:
                 return False
         return True
 
-    def least_grant(self, entry, key):
-        """The least allowance to which that of a child can be lowered."""
-        own = self.slacks[key]
-        return max(1, own, self.reported[key] + own - entry.confirmed[key])
+
+def copied_node(node, home):
+    """A node as a node of another net, which has the entries already."""
+    twin = Cache(home, node.label, node.above, None, dict(node.cells))
+    if node.row is not None:
+        twin.row = home.rows[node.label]
+    if node.kids:
+        twin.entries = {child: home.rows[child] for child in node.kids}
+        twin.kids = node.kids
+    return twin

@@ -50,6 +50,12 @@ def distances(order, numbers):
     return found
 
 
+def ends(gaps, least):
+    """The first and the last moment with this distance."""
+    found = [at for at, gap in enumerate(gaps) if gap == least]
+    return (found[0], found[-1])
+
+
 class Cut:
     def __init__(self, order, numbers):
         if not is_order(order):
@@ -61,6 +67,10 @@ class Cut:
         # The distance from each moment, and the least of them.
         self.gaps = distances(self.steps, self.chosen)
         self.least = min(self.gaps)
+        first, last = ends(self.gaps, self.least)
+        self.closest = first
+        # The moments at which one key has its number follow on each other, so those of all do.
+        self.shown = (first, last) if self.least == 0 else None
 
     @property
     def order(self):
@@ -76,15 +86,11 @@ class Cut:
 
     @property
     def nearest(self):
-        return self.gaps.index(self.least)
+        return self.closest
 
     @property
     def seen(self):
-        if self.least > 0:
-            return None
-        # The moments at which one key has its number follow on each other, so those of all do.
-        first = self.gaps.index(0)
-        return (first, first + self.gaps.count(0) - 1)
+        return self.shown
 
     def distance(self, moment):
         if not is_integer_within(moment, 0, len(self.steps)):

@@ -1,220 +1,272 @@
 """How messages travel and what they change."""
 
-from slackcache.cache import Cache
-from slackcache.state import Entry
+from slackcache.cache import Cache, Entry
+
+STORE = "store"
 
 
 def send_to_children(node, message):
-    for entry in node.entries.values():
+    for row in node.entries.values():
         # What is sent to a node that has left or crashed is lost.
-        if entry.there:
-            entry.down.append(message)
+        if row.there:
+            row.down.append(message)
 
 
-def accept(state, key, value):
+def accept(net, key, value):
     """Accept a write if the entries of the store leave room for it; its number, or None."""
-    top = state.top
-    # For the store, told is its number and the allowance is 0.
-    number = top.reported[key] + 1
-    for entry in top.entries.values():
-        if number - entry.confirmed[key] > entry.granted[key]:
+    top = net.top
+    number = top.cells[key][2] + 1
+    for row in top.entries.values():
+        confirmed, granted = row.cells[key]
+        if number - confirmed > granted:
             return None
-    top.reported[key] = number
-    top.copies[key] = (number, value)
-    state.accepted.append(key)
+    # For the store, told is its number and the allowance is 0.
+    top.cells[key] = ((number, value), 0, number, None)
+    net.accepted.append(key)
+    net.stamps.append(len(net.done))
     send_to_children(top, ("update", key, number, value))
     return number
 
 
-def agree(node, key):
-    """Agree to a raise if the node can."""
-    allowance = node.asked[key]
-    if node.agrees(key, allowance):
-        del node.asked[key]
-        node.slacks[key] = allowance
-        node.row.up.append(("agree", key, allowance))
+def accept_waiting(net, key):
+    """Accept the writes that wait in their order, as long as that is possible."""
+    while net.kept[key] and accept(net, key, net.kept[key][0]) is not None:
+        net.kept[key] = net.kept[key][1:]
 
 
-def settle(state, node, key):
-    """Do what a change of a copy, an allowance or an entry of a node makes possible."""
-    if node.row is None:
-        waiting = state.kept[key]
-        while waiting and accept(state, key, waiting[0]) is not None:
-            waiting.pop(0)
-        return
+def renew(node, key, copy, allowance, told, asked):
+    """Give a node a new cell, and send what it may now agree to and tell (the limit)."""
+    row = node.row
     # The agree goes first, so that the limit is that of the new allowance.
-    if key in node.asked:
-        agree(node, key)
-    told = node.reported[key]
-    number = node.copies[key][0]
+    if asked is not None and node.agrees(key, asked):
+        allowance = asked
+        asked = None
+        row.up.append(("agree", key, allowance))
     # No limit is greater than the number of the copy.
-    if number > told:
-        if node.entries:
-            number = node.sayable(key)
-        if number > told:
-            node.reported[key] = number
-            node.row.up.append(("confirm", key, number))
+    limit = copy[0]
+    if limit > told:
+        for entry in node.entries.values():
+            confirmed, granted = entry.cells[key]
+            if granted + confirmed - allowance < limit:
+                limit = granted + confirmed - allowance
+        if limit > told:
+            told = limit
+            row.up.append(("confirm", key, limit))
+    node.cells[key] = (copy, allowance, told, asked)
 
 
-def settle_all(state, node):
-    for key in state.words:
-        settle(state, node, key)
+def settle(net, node, key):
+    """Do what a change of an entry of a node makes possible."""
+    if node.row is None:
+        if net.kept[key]:
+            accept_waiting(net, key)
+    else:
+        copy, allowance, told, asked = node.cells[key]
+        renew(node, key, copy, allowance, told, asked)
 
 
-def start_child(state, node, child, row):
+def settle_all(net, node):
+    for key in net.words:
+        settle(net, node, key)
+
+
+def start_child(net, node, child, row):
     """Let a child be there, and send it a copy of every key with the granted allowances."""
-    state.nodes[child] = Cache(state.home, child, node.label, row)
-    for key in state.words:
-        number, value = node.copies[key]
-        row.confirmed[key] = number
-        row.down.append(("copy", key, number, value, row.granted[key]))
+    cells = {}
+    for key in net.words:
+        number, value = node.cells[key][0]
+        granted = row.cells[key][1]
+        row.cells[key] = (number, granted)
+        row.down.append(("copy", key, number, value, granted))
+        cells[key] = None
+    net.nodes[child] = Cache(net, child, node.label, row, cells)
+    net.labels = tuple(net.nodes)
 
 
-def add_child(state, node, child, granted):
-    row = Entry(granted)
+def add_child(net, node, child, pairs):
+    """Give a node an entry for a new child, with the allowances of the pairs, and start the child."""
+    row = Entry(node.label, child, {})
+    for key, allowance in pairs:
+        row.cells[key] = (0, allowance)
     node.entries[child] = row
-    state.lay_links(node.label, child, row)
-    start_child(state, node, child, row)
+    node.kids = tuple(node.entries)
+    net.rows[child] = row
+    start_child(net, node, child, row)
     # One entry more makes nothing possible, so there is nothing to settle.
 
 
-def bring_back(state, node, child):
+def bring_back(net, node, child):
     """Let a crashed child be there again, without copies and children."""
     row = node.entries[child]
     row.there = True
     row.crashed = False
-    row.raising.clear()
-    start_child(state, node, child, row)
-    settle_all(state, node)
+    row.raising = ()
+    start_child(net, node, child, row)
+    settle_all(net, node)
 
 
-def remove_entries(state, node, child):
+def remove_entries(net, node, child):
     del node.entries[child]
-    state.cut_links(node.label, child)
-    settle_all(state, node)
+    node.kids = tuple(node.entries)
+    del net.rows[child]
+    settle_all(net, node)
 
 
-def remove_nodes(state, names):
+def remove_nodes(net, names):
     """Remove nodes, and lose the answers that must go back through them."""
     for name in names:
-        node = state.nodes[name]
-        node.gone = True
-        del state.nodes[name]
-    for question in list(state.trails):
-        if any([at in names for at in state.trails[question]]):
-            del state.trails[question]
+        net.nodes[name].vanish()
+        del net.nodes[name]
+    net.labels = tuple(net.nodes)
+    for question in list(net.trails):
+        if any([at in names for at in net.trails[question]]):
+            del net.trails[question]
 
 
-def take_leave(state, name):
-    row = state.nodes[name].row
-    remove_nodes(state, [name])
+def branch(net, name):
+    """The names of a node and of all nodes below it that are there."""
+    found = [name]
+    for at, node in net.nodes.items():
+        if node.above in found:
+            found.append(at)
+    return found
+
+
+def take_leave(net, name):
+    row = net.rows[name]
+    remove_nodes(net, [name])
     row.there = False
     # The messages that it has sent stay on their way; those to it are lost.
     row.down.clear()
     row.up.append(("gone",))
 
 
-def take_crash(state, name):
-    row = state.nodes[name].row
-    names = state.branch(name)
+def take_crash(net, name):
+    names = branch(net, name)
     for at in names:
-        for child in state.nodes[at].entries:
-            state.cut_links(at, child)
-    remove_nodes(state, names)
+        for child in net.nodes[at].kids:
+            del net.rows[child]
+    remove_nodes(net, names)
+    row = net.rows[name]
     row.there = False
     row.crashed = True
     row.down.clear()
     row.up.clear()
 
 
-def give(state, node, question, key, need, floor):
+def set_allowance(net, node, key, allowance):
+    """Lower or raise the allowance of a node at its parent."""
+    row = node.row
+    confirmed, granted = row.cells[key]
+    if allowance < granted:
+        row.cells[key] = (confirmed, allowance)
+        row.down.append(("lower", key, allowance))
+        settle(net, net.nodes[node.above], key)
+    elif allowance > granted:
+        row.raising = row.raising + (key,)
+        row.down.append(("raise", key, allowance))
+
+
+def rows_from(net, node, key):
+    """What the nodes from one with a copy up to the store show of a key, as in a receipt."""
+    rows = []
+    while node.row is not None:
+        copy, allowance, told, asked = node.cells[key]
+        confirmed, granted = node.row.cells[key]
+        rows.append((node.label, told, allowance, confirmed, granted))
+        node = net.nodes[node.above]
+    return (*rows, (STORE, node.cells[key][2]))
+
+
+def give(net, node, question, key, need, floor):
     """Note the receipt of the answer that a node gives, and return the answer."""
-    number, value = node.copies[key]
-    state.receipts[question] = (key, need, floor, number, state.rows_from(node, key))
+    number, value = node.cells[key][0]
+    net.receipts[question] = (key, need, floor, number, rows_from(net, node, key))
     return (number, value, node.label)
 
 
-def ask(state, node, key, need, floor):
+def ask(net, node, key, need, floor):
     """Give a question its number, and answer it or send it to the parent."""
-    question = state.questions + 1
-    state.questions = question
+    question = net.questions + 1
+    net.questions = question
     if node.serves(key, need, floor):
-        state.answered[question] = give(state, node, question, key, need, floor)
+        net.answered[question] = give(net, node, question, key, need, floor)
     else:
-        state.trails[question] = [node.label]
+        net.trails[question] = (node.label,)
         node.row.up.append(("question", question, key, need, floor))
     return question
 
 
-def hear_question(state, node, sender, message):
+def hear_question(net, node, sender, message):
     question, key, need, floor = message[1:]
-    on_trail = question in state.trails
+    on_trail = question in net.trails
     if not node.serves(key, need, floor):
         if on_trail:
-            state.trails[question].append(node.label)
+            net.trails[question] = net.trails[question] + (node.label,)
         node.row.up.append(message)
     elif on_trail:
-        answer = give(state, node, question, key, need, floor)
-        node.entries[sender].down.append(("answer", question) + answer)
+        row = node.entries[sender]
+        row.down.append(("answer", question) + give(net, node, question, key, need, floor))
 
 
-def hear_answer(state, node, sender, message):
+def hear_answer(net, node, sender, message):
     question = message[1]
-    if question not in state.trails:
+    if question not in net.trails:
         return
-    trail = state.trails[question]
     # The node at which the answer arrives stands on the trail until now, so that
     # the answer is lost if the node goes before.
-    trail.pop()
+    trail = net.trails[question][:-1]
     if trail:
-        node.entries[trail[-1]].down.append(message)
+        net.trails[question] = trail
+        row = node.entries[trail[-1]]
+        row.down.append(message)
     else:
-        del state.trails[question]
-        state.answered[question] = message[2:]
+        del net.trails[question]
+        net.answered[question] = message[2:]
 
 
-def hear_copy(state, node, sender, message):
+def hear_copy(net, node, sender, message):
     key, number, value, allowance = message[1:]
-    node.take_copy(key, number, value, allowance)
-    settle(state, node, key)
+    renew(node, key, (number, value), allowance, number, None)
 
 
-def hear_update(state, node, sender, message):
+def hear_update(net, node, sender, message):
     key = message[1]
-    node.copies[key] = message[2:]
+    copy, allowance, told, asked = node.cells[key]
     if node.entries:
         send_to_children(node, message)
-    settle(state, node, key)
+    renew(node, key, message[2:], allowance, told, asked)
 
 
-def hear_lower(state, node, sender, message):
+def hear_lower(net, node, sender, message):
     key = message[1]
-    node.slacks[key] = message[2]
-    settle(state, node, key)
+    copy, allowance, told, asked = node.cells[key]
+    renew(node, key, copy, message[2], told, asked)
 
 
-def hear_raise(state, node, sender, message):
+def hear_raise(net, node, sender, message):
     key = message[1]
-    node.asked[key] = message[2]
-    settle(state, node, key)
+    copy, allowance, told, asked = node.cells[key]
+    renew(node, key, copy, allowance, told, message[2])
 
 
-def hear_confirm(state, node, sender, message):
+def hear_confirm(net, node, sender, message):
     key = message[1]
-    node.entries[sender].confirmed[key] = message[2]
-    settle(state, node, key)
+    row = node.entries[sender]
+    row.cells[key] = (message[2], row.cells[key][1])
+    settle(net, node, key)
 
 
-def hear_agree(state, node, sender, message):
+def hear_agree(net, node, sender, message):
     key = message[1]
-    entry = node.entries[sender]
-    entry.granted[key] = message[2]
-    del entry.raising[key]
-    settle(state, node, key)
+    row = node.entries[sender]
+    row.cells[key] = (row.cells[key][0], message[2])
+    row.raising = tuple([word for word in row.raising if word != key])
+    settle(net, node, key)
 
 
-def hear_gone(state, node, sender, message):
-    remove_entries(state, node, sender)
+def hear_gone(net, node, sender, message):
+    remove_entries(net, node, sender)
 
 
 # What a message does at the node at which it arrives.

@@ -1,9 +1,8 @@
 """Logs of acts and their results, and the first wrong entry of one."""
 
-from slackcache.acts import is_act, outcome
+from slackcache.acts import ACTS, is_act
 from slackcache.errors import InvalidDeed, InvalidLog
 from slackcache.net import Net
-from slackcache.words import is_integer
 
 LONGEST_LOG = 5000
 
@@ -38,7 +37,8 @@ class Logbook:
         """Do an act and return its result."""
         if not is_act(act, self.net.key_names):
             raise InvalidDeed(act)
-        result = outcome(self.net, act)
+        do = ACTS[act[0]]
+        result = do(self.net, act)
         self.pairs.append(noted_pair(act, result))
         return result
 
@@ -54,19 +54,21 @@ def is_same(obj, result):
     """Whether any object is equal to a result, also in the kinds of all objects in it."""
     if result is None:
         return obj is None
+    if isinstance(result, int):
+        return isinstance(obj, int) and not isinstance(obj, bool) and obj == result
     if isinstance(result, str):
         return isinstance(obj, str) and obj == result
-    if is_integer(result):
-        return is_integer(obj) and obj == result
     if isinstance(result, list):
-        return isinstance(obj, list) and are_same(obj, result)
-    return isinstance(obj, tuple) and are_same(obj, result)
-
-
-def are_same(items, results):
-    if len(items) != len(results):
+        if not isinstance(obj, list):
+            return False
+    elif not isinstance(obj, tuple):
         return False
-    return all([is_same(item, result) for item, result in zip(items, results)])
+    if len(obj) != len(result):
+        return False
+    for item, part in zip(obj, result):
+        if not is_same(item, part):
+            return False
+    return True
 
 
 def is_right(net, obj):
@@ -74,7 +76,10 @@ def is_right(net, obj):
     if not isinstance(obj, tuple) or len(obj) != 2:
         return False
     act, result = obj
-    return is_act(act, net.key_names) and is_same(result, outcome(net, act))
+    if not is_act(act, net.words):
+        return False
+    do = ACTS[act[0]]
+    return is_same(result, do(net, act))
 
 
 def first_wrong(keys, log):

@@ -2,16 +2,16 @@
 
 from slackcache.errors import NoAnswer
 from slackcache.net import Net
-from slackcache.state import STORE
+from slackcache.flow import STORE, rows_from
 from slackcache.words import is_integer, is_word
 
 
 def receipt_of(net, question):
     """The receipt that was noted when a node gave the answer."""
     net.answer(question)
-    if question not in net.core.receipts:
+    if question not in net.receipts:
         raise NoAnswer(question)
-    return net.core.receipts[question]
+    return net.receipts[question]
 
 
 def are_counts(items):
@@ -79,19 +79,47 @@ def shows(net, receipt):
     """Whether the rows and the number of a receipt are those of a net and its key."""
     key, need, floor, number, rows = receipt
     name = rows[0][0]
-    if name not in net or key not in net[name]:
+    if name not in net.nodes:
         return False
-    node = net[name]
-    return node[key][0] == number and net.core.rows_from(node, key) == rows
+    node = net.nodes[name]
+    if node.cells[key] is None or node.cells[key][0][0] != number:
+        return False
+    return rows_from(net, node, key) == rows
+
+
+def moments_of_number(net, key, number):
+    """The first and the last moment at which the store had a number; the last is less if it never had."""
+    stamps = [stamp for word, stamp in zip(net.accepted, net.stamps) if word == key]
+    if number > len(stamps):
+        return (0, -1)
+    first = stamps[number - 1] if number > 0 else 0
+    last = stamps[number] - 1 if number < len(stamps) else len(net.done)
+    return (first, last)
+
+
+def is_possible(number, rows):
+    """Whether a net may have shown these rows: no node tells more than it has, or confirms more than it tells."""
+    first, total = rows[0], rows[-1][1]
+    if number > total or first[1] > number:
+        return False
+    for label, told, allowance, confirmed, granted in rows[:-1]:
+        if told > total or confirmed > told:
+            return False
+    return True
 
 
 def moment_of_receipt(net, receipt):
     """The least number of deeds after which the net showed this receipt, or None."""
-    if not has_form(receipt):
+    if not has_form(receipt) or receipt[0] not in net.words:
         return None
-    past = Net(net.key_names)
-    for moment, deed in enumerate(net.history):
-        if shows(past, receipt):
+    key, need, floor, number, rows = receipt
+    if not is_possible(number, rows):
+        return None
+    # Only the moments at which the store had its number of the receipt need a look.
+    first, last = moments_of_number(net, key, rows[-1][1])
+    past = Net(net.words)
+    for moment, deed in enumerate(net.done[:last + 1]):
+        if moment >= first and shows(past, receipt):
             return moment
         past.perform(deed)
-    return len(net.history) if shows(past, receipt) else None
+    return last if len(net.done) == last and shows(past, receipt) else None

@@ -1,7 +1,7 @@
 """Sessions, which never go back behind what they have seen, and the tokens that they hand on."""
 
 from slackcache.errors import InvalidOperand, InvalidToken, Overtaken, UnknownQuestion
-from slackcache.state import STORE
+from slackcache.flow import STORE
 from slackcache.words import is_integer, is_word
 
 
@@ -26,9 +26,7 @@ class Token:
         return dict(self.held)
 
     def __getitem__(self, at):
-        if not isinstance(at, str):
-            return 0
-        return self.held.get(at, 0)
+        return self.held[at] if isinstance(at, str) and at in self.held else 0
 
     def __iter__(self):
         raise TypeError("a token is not iterated over")
@@ -36,8 +34,7 @@ class Token:
     def __or__(self, other):
         if not isinstance(other, Token):
             raise InvalidOperand(other)
-        words = list(self.held) + list(other.held)
-        return Token({key: max(self.held.get(key, 0), other.held.get(key, 0)) for key in words})
+        return Token({key: max(self[key], other[key]) for key in list(self.held) + list(other.held)})
 
     def __eq__(self, other):
         return isinstance(other, Token) and self.held == other.held
