@@ -219,3 +219,8 @@ def is_act(obj, keys):
     if not isinstance(verb, str) or verb not in SIZES or len(obj) != SIZES[verb]:
         return False
     return verb != "join" or are_pairs(obj[3], keys)
+
+
+def is_refusal(result):
+    """Whether a result of an act stands for an error."""
+    return isinstance(result, tuple) and result[0] == "error"

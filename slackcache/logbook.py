@@ -1,6 +1,6 @@
 """Logs of acts and their results, and the first wrong entry of one."""
 
-from slackcache.acts import ACTS, is_act
+from slackcache.acts import ACTS, is_act, is_refusal
 from slackcache.errors import InvalidDeed, InvalidLog
 from slackcache.net import Net
 
@@ -16,11 +16,6 @@ def fresh(obj):
     if isinstance(obj, dict):
         return {key: fresh(obj[key]) for key in obj}
     return obj
-
-
-def is_refusal(result):
-    """Whether a result of an act stands for an error."""
-    return isinstance(result, tuple) and result[0] == "error"
 
 
 def noted_pair(act, result):

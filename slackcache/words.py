@@ -38,3 +38,11 @@ def are_allowances(obj, keys):
         if key not in obj or not is_allowance(obj[key]):
             return False
     return True
+
+
+def is_number_text(text):
+    """Whether a text is an integer without leading zeros, with a minus sign if it is negative."""
+    digits = text[1:] if text.startswith("-") else text
+    if not digits.isascii() or not digits.isdigit():
+        return False
+    return not digits.startswith("0") or text == "0"

@@ -19,7 +19,7 @@ BARRED_NAMES = (
 )
 DOUBLE = (
     "__init__", "__eq__", "__len__", "__contains__", "__getitem__", "__iter__", "__rshift__", "__or__", "__and__",
-    "__bool__",
+    "__bool__", "__call__", "__invert__",
 )
 
 
