@@ -99,6 +99,11 @@ def holds(net, part):
     return one is not None and other is not None and compares(one, sign, other)
 
 
+def bracketed(condition, least):
+    """The text of a condition as a part of another one, in brackets if it binds less than so much."""
+    return f"( {condition.written} )" if condition.binds < least else condition.written
+
+
 class Condition:
     """The parts stand in the order in which they are worked off: behind what they join."""
 
@@ -127,25 +132,21 @@ class Condition:
                     found.append(holds(net, part))
         return found[0]
 
-    def within(self, least):
-        """The text as a part of a condition, in brackets if it binds less than so much."""
-        return f"( {self.written} )" if self.binds < least else self.written
-
     def __and__(self, other):
         if not isinstance(other, Condition):
             raise InvalidOperand(other)
         # A condition that is joined behind keeps its own joins together.
-        written = f"{self.within(BINDS_AND)} and {other.within(BINDS_NOT)}"
+        written = f"{bracketed(self, BINDS_AND)} and {bracketed(other, BINDS_NOT)}"
         return Condition(self.parts + other.parts + (("and",),), written, BINDS_AND)
 
     def __or__(self, other):
         if not isinstance(other, Condition):
             raise InvalidOperand(other)
-        written = f"{self.written} or {other.within(BINDS_AND)}"
+        written = f"{self.written} or {bracketed(other, BINDS_AND)}"
         return Condition(self.parts + other.parts + (("or",),), written, BINDS_OR)
 
     def __invert__(self):
-        return Condition(self.parts + (("not",),), f"not {self.within(BINDS_NOT)}", BINDS_NOT)
+        return Condition(self.parts + (("not",),), f"not {bracketed(self, BINDS_NOT)}", BINDS_NOT)
 
     def __eq__(self, other):
         return isinstance(other, Condition) and self.written == other.written

