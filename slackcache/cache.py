@@ -6,11 +6,11 @@ from slackcache.errors import NoCopy, UnknownKey, UnknownNode
 class Entry:
     """What a node keeps of one child, and the messages between the two."""
 
-    def __init__(self, above, child, cells):
+    def __init__(self, down_link, up_link, cells):
         # The name of the parent, and the links to the child and from it.
-        self.above = above
-        self.down_link = (above, child)
-        self.up_link = (child, above)
+        self.above = down_link[0]
+        self.down_link = down_link
+        self.up_link = up_link
         # By keys, the tuples (confirmed, granted).
         self.cells = cells
         # A key stands here from the raise that is sent to the agree that arrives.
@@ -24,7 +24,7 @@ class Entry:
 
 
 def copied_entry(row):
-    twin = Entry(row.above, row.up_link[0], dict(row.cells))
+    twin = Entry(row.down_link, row.up_link, dict(row.cells))
     twin.raising = row.raising
     twin.there = row.there
     twin.crashed = row.crashed
@@ -80,6 +80,11 @@ class Cache:
             raise NoCopy(key)
         return node.cells[key]
 
+    def copied_keys(self):
+        """The keys of which there is a copy."""
+        cells = self.seek().cells
+        return [key for key in cells if cells[key] is not None]
+
     @property
     def name(self):
         return self.seek().label
@@ -116,8 +121,7 @@ class Cache:
         raise TypeError("a cache is not iterated over")
 
     def __len__(self):
-        cells = self.seek().cells
-        return len([key for key in cells if cells[key] is not None])
+        return len(self.copied_keys())
 
     def __rshift__(self, other):
         node = self.seek()
@@ -167,7 +171,12 @@ class Cache:
 
     def entry(self, child, key):
         """What the child confirmed and what is granted to it."""
-        entries = self.seek().entries if self.gone else self.entries
+        if isinstance(child, str) and isinstance(key, str):
+            try:
+                return self.entries[child].cells[key]
+            except KeyError:
+                pass
+        entries = self.seek().entries
         if not isinstance(child, str) or child not in entries:
             raise UnknownNode(child)
         cells = entries[child].cells

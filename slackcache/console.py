@@ -1,7 +1,7 @@
 """A console: a desk that is worked by commands in words."""
 
 from slackcache.conditions import parse_condition
-from slackcache.deeds import INTEGER, WORD, read_deed, read_items, with_keys
+from slackcache.deeds import read_deed, read_items, with_keys
 from slackcache.desk import Desk
 from slackcache.errors import InvalidCommand, InvalidCondition
 from slackcache.texts import format_deed, spaced
@@ -10,15 +10,15 @@ from slackcache.words import are_keys
 
 # What follows the name of each command, but for those with keys, a deed or a condition.
 FORMS = {
-    "undo": (WORD, WORD),
-    "redo": (WORD, WORD),
-    "drop": (WORD, WORD),
-    "fork": (WORD, WORD, WORD),
+    "undo": ("word", "word"),
+    "redo": ("word", "word"),
+    "drop": ("word", "word"),
+    "fork": ("word", "word", "word"),
     "nets": (),
-    "answer": (WORD, INTEGER),
-    "waits": (WORD, WORD),
-    "free": (WORD, WORD),
-    "sharp": (WORD, WORD, WORD),
+    "answer": ("word", "integer"),
+    "waits": ("word", "word"),
+    "free": ("word", "word"),
+    "sharp": ("word", "word", "word"),
 }
 NOTHING = "-"
 
@@ -36,14 +36,14 @@ def listed(rows):
 
 
 def read_create(words):
-    items = read_items(words, (WORD,) * len(words))
+    items = read_items(words, ("word",) * len(words))
     if items is None or not are_keys(items[2:]):
         return None
     return ("create", items[0], items[1], items[2:])
 
 
 def read_do(words):
-    names = read_items(words[:2], (WORD, WORD))
+    names = read_items(words[:2], ("word", "word"))
     deed = read_deed(words[2:]) if len(words) > 2 else None
     if names is None or deed is None:
         return None
@@ -51,7 +51,7 @@ def read_do(words):
 
 
 def read_test(words):
-    names = read_items(words[:1], (WORD,))
+    names = read_items(words[:1], ("word",))
     if names is None:
         return None
     try:
@@ -98,7 +98,7 @@ class Console:
 
     def do_deed(self, line, command):
         user, name, written = command[1:]
-        deed = with_keys(written, self.desk.twin(name).key_names)
+        deed = with_keys(written, self.desk.net_of(name).key_names)
         if deed is None:
             raise InvalidCommand(line)
         return told(self.desk.do(user, name, deed))
@@ -118,17 +118,17 @@ class Console:
                 return told(self.desk.drop(user, name))
 
     def look(self, command):
-        net = self.desk.twin(command[1])
+        net, given = self.desk.net_of(command[1]), command[2]
         match command[0]:
             case "test":
-                return "yes" if command[2](net) else "no"
+                return "yes" if given(net) else "no"
             case "answer":
-                answer = net.answer(command[2])
+                answer = net.answer(given)
                 return NOTHING if answer is None else spaced(answer)
             case "waits":
-                return listed([spaced(row) for row in waits(net, command[2])])
+                return listed([spaced(row) for row in waits(net, given)])
             case "free":
-                links = freeing(net, command[2])
-                return NOTHING if links is None else listed([spaced(link) for link in links])
+                found = freeing(net, given)
+                return NOTHING if found is None else listed([spaced(link) for link in found])
             case _:
-                return listed([format_deed(deed) for deed in sharp(net, command[2], command[3])])
+                return listed([format_deed(deed) for deed in sharp(net, given, command[3])])

@@ -2,19 +2,16 @@
 
 from slackcache.words import is_number_text, is_word
 
-WORD = "word"
-INTEGER = "integer"
-
 # What follows the name of each deed in a line but that of a join.
 FORMS = {
-    "write": (WORD, INTEGER),
-    "read": (WORD, WORD, INTEGER, INTEGER),
-    "change": (WORD, WORD, INTEGER),
-    "deliver": (WORD, WORD),
-    "leave": (WORD,),
-    "crash": (WORD,),
-    "forget": (WORD,),
-    "recover": (WORD,),
+    "write": ("word", "integer"),
+    "read": ("word", "word", "integer", "integer"),
+    "change": ("word", "word", "integer"),
+    "deliver": ("word", "word"),
+    "leave": ("word",),
+    "crash": ("word",),
+    "forget": ("word",),
+    "recover": ("word",),
 }
 
 
@@ -36,7 +33,7 @@ def read_items(words, form):
         return None
     items = []
     for word, kind in zip(words, form):
-        if kind == WORD:
+        if kind == "word":
             if not is_word(word):
                 return None
             items.append(word)
@@ -51,7 +48,7 @@ def read_deed(words):
     """The deed that is written in the words of a line, or None; a join with its allowances alone."""
     verb = words[0]
     if verb == "join" and len(words) > 3:
-        items = read_items(words[1:], (WORD, WORD) + (INTEGER,) * (len(words) - 3))
+        items = read_items(words[1:], ("word", "word") + ("integer",) * (len(words) - 3))
         return None if items is None else ("join", items[0], items[1], items[2:])
     if verb not in FORMS:
         return None

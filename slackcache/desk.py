@@ -49,7 +49,8 @@ class Shelf:
             self.saved.pop()
         past = self.saved[-1].copy() if self.saved else Net(self.net.key_names)
         latest = len(past.done)
-        for deed in history[latest:-1]:
+        rest = history[latest:-1]
+        for deed in rest:
             past.perform(deed)
             if len(past.done) - latest == SPAN:
                 self.saved.append(past.copy())
@@ -78,6 +79,10 @@ class Desk:
         if name not in self:
             raise UnknownNet(name)
         return self.shelves[name]
+
+    def net_of(self, name):
+        """The net itself, for looks that change nothing."""
+        return self.shelf_of(name).net
 
     def shelf_for(self, user, name):
         if not is_word(user):
@@ -157,7 +162,7 @@ class Desk:
         return found
 
     def twin(self, name):
-        return self.shelf_of(name).net.copy()
+        return self.net_of(name).copy()
 
     def users(self, name):
         """The users of the deeds of a net, in order."""
@@ -165,7 +170,7 @@ class Desk:
 
     def first_difference(self, one, other):
         """The index of the first deed in which two nets differ, or None if they are equal."""
-        net, twin = self.shelf_of(one).net, self.shelf_of(other).net
+        net, twin = self.net_of(one), self.net_of(other)
         if net.key_names != twin.key_names:
             return 0
         for index, (deed, fellow) in enumerate(zip(net.done, twin.done)):

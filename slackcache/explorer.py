@@ -80,7 +80,8 @@ class Search:
         return mark_of(net, self.accepted, self.answered)
 
     def listed(self, net):
-        return steps_of(net) if self.lister is None else self.lister(net)
+        lister = self.lister
+        return steps_of(net) if lister is None else lister(net)
 
     def take(self, place, step):
         """The place to which a step leads if it is new, otherwise None."""
@@ -114,7 +115,8 @@ def explore(net, most, steps):
     for depth in range(most):
         following = []
         for place in frontier:
-            for step in search.listed(place.net):
+            listed = search.listed(place.net)
+            for step in listed:
                 new = search.take(place, step)
                 if new is not None:
                     following.append(new)

@@ -85,7 +85,7 @@ def start_child(net, node, child, row):
 
 def add_child(net, node, child, pairs):
     """Give a node an entry for a new child, with the allowances of the pairs, and start the child."""
-    row = Entry(node.label, child, {})
+    row = Entry((node.label, child), (child, node.label), {})
     for key, allowance in pairs:
         row.cells[key] = (0, allowance)
     node.entries[child] = row

@@ -61,7 +61,11 @@ def is_same(obj, result):
     if len(obj) != len(result):
         return False
     for item, part in zip(obj, result):
-        if not is_same(item, part):
+        # Most items are words.
+        if isinstance(part, str):
+            if not isinstance(item, str) or item != part:
+                return False
+        elif not is_same(item, part):
             return False
     return True
 

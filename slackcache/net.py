@@ -253,7 +253,9 @@ class Net:
                 return self.read(deed[1], deed[2], deed[3], floor=deed[4])
             case "change" if size == 4:
                 return self.change(deed[1], deed[2], deed[3])
-            case "join" if size == 4 and are_pairs(deed[3], self.words):
+            case "join" if size == 4:
+                if not are_pairs(deed[3], self.words):
+                    raise InvalidDeed(deed)
                 return self.join(deed[1], deed[2], dict(deed[3]))
             case "leave" if size == 2:
                 return self.leave(deed[1])

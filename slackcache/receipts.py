@@ -117,6 +117,8 @@ def moment_of_receipt(net, receipt):
         return None
     # Only the moments at which the store had its number of the receipt need a look.
     first, last = moments_of_number(net, key, rows[-1][1])
+    if len(rows) == 1:
+        return first if number == rows[0][1] and first <= last else None
     past = Net(net.words)
     for moment, deed in enumerate(net.done[:last + 1]):
         if moment >= first and shows(past, receipt):

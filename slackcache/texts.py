@@ -1,7 +1,7 @@
 """Texts of deeds, histories, tokens, cuts and receipts."""
 
 from slackcache.cuts import Cut, is_order
-from slackcache.deeds import INTEGER, WORD, read_deed, read_items, with_keys
+from slackcache.deeds import read_deed, read_items, with_keys
 from slackcache.errors import InvalidCut, InvalidKeys, InvalidOrder, InvalidText
 from slackcache.receipts import has_form
 from slackcache.sessions import Token
@@ -63,7 +63,7 @@ def read_numbers(text):
     numbers = {}
     latest = ""
     for part in text.split(" "):
-        items = read_items(part.split("="), (WORD, INTEGER))
+        items = read_items(part.split("="), ("word", "integer"))
         if items is None or items[0] <= latest:
             return None
         latest = items[0]
@@ -107,7 +107,7 @@ def format_receipt(receipt):
 def items_of_line(line):
     """The word and the integers that are written in a line, or None."""
     words = line.split(" ")
-    return read_items(words, (WORD,) + (INTEGER,) * (len(words) - 1))
+    return read_items(words, ("word",) + ("integer",) * (len(words) - 1))
 
 
 def parse_receipt(text):

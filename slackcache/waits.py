@@ -1,7 +1,6 @@
 """Why writes wait, what frees them, and how a copy becomes as old as it may."""
 
 from slackcache.errors import NothingWaits, Unsettled
-from slackcache.flow import STORE
 
 
 def check_waiting(net, key):

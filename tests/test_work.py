@@ -5,15 +5,18 @@ import sys
 import unittest
 
 from slackcache.errors import CacheError
+from slackcache.explorer import shortest
+from slackcache.logbook import Logbook, first_wrong
 from slackcache.net import Net
+from slackcache.receipts import moment_of_receipt, receipt_of
 from tests.drawing import WEIGHTS, Draw, draw_deed
 from tests.helpers import inner, tree
 
 PACKAGE = os.path.dirname(os.path.abspath(sys.modules["slackcache.net"].__file__))
 
 
-def count_calls(call):
-    """How many functions of the package a call goes through."""
+def calls_of(call):
+    """The names of the functions of the package that a call goes through."""
     found = []
 
     def note(frame, event, _):
@@ -26,7 +29,12 @@ def count_calls(call):
         call()
     finally:
         sys.setprofile(before)
-    return len(found)
+    return found
+
+
+def count_calls(call):
+    """How many functions of the package a call goes through, but for comprehensions."""
+    return len([name for name in calls_of(call) if not name.startswith("<")])
 
 
 def looks_of(net):
@@ -57,8 +65,11 @@ class WorkTest(unittest.TestCase):
             lambda: "a" in net["oslo"], lambda: net["oslo"]["a"], lambda: net["oslo"].bound("a"),
             lambda: net["oslo"].allowance("a"), lambda: net["oslo"].told("a"), lambda: net["north"].entry("oslo", "a"),
             lambda: net.age("oslo", "a"), lambda: net.waiting("a"), lambda: net.messages("store", "north"),
+            lambda: net["north"].children, lambda: list(net.links()),
         ):
             self.assertLessEqual(count_calls(look), 2)
+        for look in (lambda: net.names, lambda: net["north"], lambda: net.number("a"), lambda: net.messages(1, 2)):
+            self.assertEqual(count_calls(look), 1)
 
     def test_a_deed_goes_through_few_functions(self):
         rows = [("north", "store", (2, 2)), ("south", "store", (2, 2)), ("oslo", "north", (3, 3))]
@@ -77,6 +88,58 @@ class WorkTest(unittest.TestCase):
         for at, (deed, most) in enumerate(deeds):
             self.assertLessEqual(count_calls(deed), most, at)
         self.assertEqual(net.history[-1], ("deliver", "store", "south"))
+
+    def test_an_entry_of_a_log_goes_through_few_functions(self):
+        book = Logbook(["a"])
+        for act in [("join", "north", "store", (("a", 3),)), ("deliver", "store", "north")] + [
+            ("number", "a"), ("waiting", "a"), ("age", "north", "a"), ("bound", "north", "a"), ("told", "rome", "a"),
+            ("copy", "north", "b"), ("messages", "store", "north"), ("answer", 1), ("deliver", "north", "store"),
+            ("write", "a", 5), ("write", "b", 5), ("leave", "rome"), ("change", "north", "a", 3), ("crash", "store"),
+        ] * 5:
+            book.act(act)
+        log = book.noted
+        self.assertIsNone(first_wrong(["a"], log))
+        # Whether it is right, an act, the act itself with the errors it raises, and the same result.
+        self.assertLess(count_calls(lambda: first_wrong(["a"], log)), 8 * len(log))
+
+    def test_the_moment_of_a_receipt_needs_no_more_than_the_deeds_before(self):
+        net = tree(("north", "store", (5, 5)), keys=("a", "key"))
+        receipts = []
+        for value in range(30):
+            net.write("a", value)
+            net.deliver("store", "north")
+            net.deliver("north", "store")
+            net.read("north", "a", 9)
+            receipts.append(receipt_of(net, value + 1))
+        key, need, floor, number, rows = receipts[20]
+        north, store = rows
+        for receipt in (
+            ("size",) + receipts[20][1:], receipts[20][:3] + (99,) + receipts[20][4:], (key, need, floor, number, (store,)),
+            (key, need, floor, number - 1, (store,)), (key, need, floor, 31, (("store", 31),)),
+            (key, need, floor, number, (north[:1] + (40,) + north[2:], store)),
+            (key, need, floor, number, (north, ("store", 31))),
+            (key, need, floor, number, (north[:3] + (40,) + north[4:], store)),
+        ):
+            self.assertNotIn("perform", calls_of(lambda: moment_of_receipt(net, receipt)))
+        for at, receipt in enumerate(receipts):
+            calls = calls_of(lambda: self.assertIsNotNone(moment_of_receipt(net, receipt)))
+            self.assertEqual(calls.count("perform"), moment_of_receipt(net, receipt))
+            self.assertLess(calls.count("shows"), 5)
+            # One number that is off is not sought for beyond the last moment of the number of the store.
+            rows = (receipt[4][0][:2] + (6,) + receipt[4][0][3:], receipt[4][1])
+            calls = calls_of(lambda: self.assertIsNone(moment_of_receipt(net, receipt[:4] + (rows,))))
+            self.assertLess(calls.count("perform"), 4 * at + 12)
+
+    def test_the_explorer_does_few_deeds_for_each_net(self):
+        for rows in ([("north", "store", 2), ("south", "store", 3)],
+                     [("north", "store", 2), ("oslo", "north", 3), ("rome", "oslo", 4), ("lima", "store", 3)]):
+            net = tree(*rows)
+            nets = []
+            calls = calls_of(lambda: shortest(net, nets.append, 7))
+            self.assertGreater(len(nets), 50)
+            # Most nets are reached in several ways, but are made only once.
+            self.assertLess(calls.count("perform"), 1.5 * len(nets))
+            self.assertLess(calls.count("copy"), 1.5 * len(nets))
 
     def test_looks_keep_nothing(self):
         looks = 0
