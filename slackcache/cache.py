@@ -105,7 +105,10 @@ class Cache:
                 return self.cells[x] is not None
             except KeyError:
                 pass
-        return self.gone and x in self.seek()
+        if not self.gone:
+            return False
+        cells = self.seek().cells
+        return isinstance(x, str) and x in cells and cells[x] is not None
 
     def __getitem__(self, at):
         if isinstance(at, str):

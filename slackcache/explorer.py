@@ -40,6 +40,19 @@ class Place:
         self.step = step
         # By the steps that were taken from here, the places to which they lead.
         self.ways = {}
+        # A copy of the net that a step has left as it was, by raising an error.
+        self.spare = None
+
+    def twin(self):
+        """A copy of the net for the next step."""
+        found = self.net.copy() if self.spare is None else self.spare
+        self.spare = None
+        return found
+
+    def leave(self):
+        """Keep nothing that only the next steps from here would need."""
+        self.net = None
+        self.spare = None
 
     def path(self):
         place = self
@@ -90,10 +103,11 @@ class Search:
             if known is not None:
                 place.ways[step] = known
                 return None
-        twin = place.net.copy()
+        twin = place.twin()
         try:
             twin.perform(step)
         except CacheError:
+            place.spare = twin
             return None
         mark = self.mark(twin)
         new = None
@@ -121,7 +135,7 @@ def explore(net, most, steps):
                 if new is not None:
                     following.append(new)
                     yield new
-            place.net = None
+            place.leave()
         frontier = following
 
 

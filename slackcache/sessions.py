@@ -15,6 +15,10 @@ def are_floors(obj):
     return True
 
 
+def floor_in(floors, key):
+    return floors[key] if key in floors else 0
+
+
 class Token:
     def __init__(self, floors):
         if not are_floors(floors):
@@ -26,7 +30,7 @@ class Token:
         return dict(self.held)
 
     def __getitem__(self, at):
-        return self.held[at] if isinstance(at, str) and at in self.held else 0
+        return floor_in(self.held, at) if isinstance(at, str) else 0
 
     def __iter__(self):
         raise TypeError("a token is not iterated over")
@@ -34,7 +38,8 @@ class Token:
     def __or__(self, other):
         if not isinstance(other, Token):
             raise InvalidOperand(other)
-        return Token({key: max(self[key], other[key]) for key in list(self.held) + list(other.held)})
+        words = list(self.held) + list(other.held)
+        return Token({key: max(floor_in(self.held, key), floor_in(other.held, key)) for key in words})
 
     def __eq__(self, other):
         return isinstance(other, Token) and self.held == other.held

@@ -96,14 +96,27 @@ def helpful_link(net, key):
     return links[0]
 
 
+def deliver_up_to(net, link, key):
+    """Deliver the messages of a link up to the first one that speaks of a key, and return how many.
+
+    The others leave the reasons why a write of the key waits as they are.
+    """
+    many = 0
+    speaks = False
+    while not speaks and is_deliverable(net, link):
+        message = net.deliver(link[0], link[1])
+        many += 1
+        speaks = len(message) == 1 or message[1] == key
+    return many
+
+
 def all_that_helps(net, key):
     """Links that free the first waiting write; some of them may be spared."""
     twin = net.copy()
     found = []
     while twin.number(key) == net.number(key):
-        sender, receiver = helpful_link(twin, key)
-        twin.deliver(sender, receiver)
-        found.append((sender, receiver))
+        link = helpful_link(twin, key)
+        found = found + [link] * deliver_up_to(twin, link, key)
     return found
 
 
@@ -112,10 +125,15 @@ def thinned(net, key, links):
     past = net.copy()
     number = net.number(key)
     found = []
+    latest = None
     for at, link in enumerate(links):
-        if not is_passed_by(past, key, number, links[at + 1:]):
+        # Of equal links one after the other, each leaves the same ones behind.
+        if link != latest and is_passed_by(past, key, number, links[at + 1:]):
+            latest = None
+        else:
             past.deliver(link[0], link[1])
             found.append(link)
+            latest = link
     return found
 
 

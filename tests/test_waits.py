@@ -263,6 +263,16 @@ class FreeingTest(unittest.TestCase):
         self.assertEqual(list(waits(net, "price")), [("north", 2, "below"), ("oslo", 2, "crashed")])
         self.assertEqual(check_freeing(self, net), [("store", "north"), ("north", "store")])
 
+    def test_many_messages_before_the_ones_that_count(self):
+        net = chain(1)
+        for _ in range(400):
+            net.read("north", "price", 0)
+        fill(net)
+        links = freeing(net, "price")
+        self.assertEqual(links, [("store", "north")] + [("north", "store")] * 401)
+        self.assertFalse(frees(net, "price", links[:-1]))
+        self.assertTrue(frees(net, "price", links))
+
     def test_frees_for_other_lists(self):
         net = fill(tree(("north", "store", 1), ("south", "store", 5)))
         good = freeing(net, "price")

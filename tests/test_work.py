@@ -141,6 +141,15 @@ class WorkTest(unittest.TestCase):
             self.assertLess(calls.count("perform"), 1.5 * len(nets))
             self.assertLess(calls.count("copy"), 1.5 * len(nets))
 
+    def test_own_steps_that_raise_errors_cost_no_net(self):
+        net = tree(("north", "store", 2))
+        bad = [("leave", "rome"), ("forget", "north"), ("deliver", "rome", "store"), ("write", "size", 1)]
+        nets = []
+        calls = calls_of(lambda: shortest(net, nets.append, 6, steps=lambda found: bad + [("write", "price", 0)] + bad))
+        self.assertEqual(len(nets), 7)
+        self.assertLess(calls.count("copy"), 3 * len(nets))
+        self.assertEqual(calls.count("perform"), 6 * 9)
+
     def test_looks_keep_nothing(self):
         looks = 0
         for seed in range(20):
