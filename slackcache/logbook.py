@@ -51,8 +51,6 @@ def is_same(obj, result):
         return obj is None
     if isinstance(result, int):
         return isinstance(obj, int) and not isinstance(obj, bool) and obj == result
-    if isinstance(result, str):
-        return isinstance(obj, str) and obj == result
     if isinstance(result, list):
         if not isinstance(obj, list):
             return False
@@ -61,7 +59,6 @@ def is_same(obj, result):
     if len(obj) != len(result):
         return False
     for item, part in zip(obj, result):
-        # Most items are words.
         if isinstance(part, str):
             if not isinstance(item, str) or item != part:
                 return False

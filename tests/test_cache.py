@@ -146,6 +146,34 @@ class KeptTest(unittest.TestCase):
         drain(net)
         self.assertEqual((north.parent, north.allowance("price"), north), ("south", 9, net["north"]))
 
+    def test_a_kept_cache_shows_all_that_the_node_shows_that_is_back(self):
+        net = tree(("north", "store", (2, 3)), ("oslo", "north", (4, 5)), keys=("price", "size"))
+        north = net["north"]
+        net.crash("north")
+        net.recover("north")
+        net.write("price", 7)
+        net.deliver("store", "north")
+        # There is a copy of one key alone.
+        self.assertEqual([key in north for key in ("price", "size", "cost", 5, [])], [True, False, False, False, False])
+        drain(net)
+        net.write("price", 8)
+        net.deliver("store", "north")
+        net.join("rome", "north", {"price": 6, "size": 7})
+        new = net["north"]
+        for key in ("price", "size"):
+            self.assertEqual(
+                [north[key], north.told(key), north.bound(key), north.allowance(key), north.entry("rome", key),
+                 north.can_answer(key, 2), key in north],
+                [new[key], new.told(key), new.bound(key), new.allowance(key), new.entry("rome", key),
+                 new.can_answer(key, 2), key in new],
+            )
+        self.assertEqual((north["price"], north.told("price"), north.bound("price")), ((2, 8), 2, 2))
+        self.assertEqual(north.entry("rome", "size"), (0, 7))
+        self.assertEqual((north.children, len(north), north >> "rome"), (("rome",), 2, net["rome"]))
+        check_refused(self, net, UnknownNode, {"node": "oslo"}, north.entry, "oslo", "cost")
+        check_refused(self, net, UnknownKey, {"word": "cost"}, north.entry, "rome", "cost")
+        check_refused(self, net, UnknownKey, {"word": "cost"}, north.told, "cost")
+
     def test_two_caches_are_equal_if_their_names_and_nets_are(self):
         net, other = [tree(("north", "store", 2), ("south", "store", 2)) for _ in range(2)]
         self.assertTrue(net["north"] == net["north"])

@@ -267,6 +267,10 @@ class FormTest(unittest.TestCase):
             self.assertEqual(parse_condition("( " * deep + "0 = 0" + " )" * deep).text, "0 = 0")
         for deep in (21, 22, 100):
             self.refuse("( " * deep + "0 = 0" + " )" * deep)
+        # Brackets that are closed again count no more, and no less.
+        for before in ("( 0 = 0 ) and ", "( ( 0 = 0 ) ) and ( 0 = 0 ) and "):
+            parse_condition(before + "( " * 20 + "0 = 0" + " )" * 20)
+            self.refuse(before + "( " * 21 + "0 = 0" + " )" * 21)
         text = "( 0 = 0 ) and " * 30 + "0 = 0"
         self.assertTrue(parse_condition(text)(Net(["a"])))
         self.refuse("( " * 20 + "0 = 0" + " )" * 19)

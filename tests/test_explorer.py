@@ -7,7 +7,7 @@ from slackcache.errors import CacheError, InvalidMost, LimitExceeded, NoCopy, Un
 from slackcache.explorer import greatest_age, shortest, steps_of
 from slackcache.net import Net
 from tests.drawing import WEIGHTS, Draw, draw_deed
-from tests.helpers import ODD, check_raised, inner, picture, tree
+from tests.helpers import ODD, check_raised, drain, inner, picture, tree
 
 
 def shown(net):
@@ -231,6 +231,76 @@ class ShortestTest(unittest.TestCase):
         lost.crash("oslo")
         lost.recover("oslo")
         self.assertIsNone(shortest(lost, answered, 5, steps=lose))
+
+
+    def test_a_lost_answer_under_way_tells_nets_apart(self):
+        net = tree(("north", "store", 1), ("oslo", "north", 1))
+        net.read("oslo", "price", 0)
+
+        def steps(found):
+            return [("deliver", *link) for link in found.links()] + [("crash", "oslo"), ("recover", "oslo")]
+
+        def lost(found):
+            """The answer is under way, all else is done, and yet it will be lost."""
+            if list(found.links()) != [("store", "north")] or "oslo" not in found or "price" not in found["oslo"]:
+                return False
+            twin = found.copy()
+            drain(twin)
+            return found.messages("store", "north")[0][0] == "answer" and twin.answer(1) is None
+
+        path = shortest(net, lost, 5, steps=steps)
+        self.assertEqual(sorted(deed[0] for deed in path), ["crash", "deliver", "deliver", "deliver", "recover"])
+
+    def test_raises_in_any_order_are_the_same(self):
+        # Oslo keeps north from agreeing, so that both raises stay.
+        net = tree(("north", "store", (1, 1)), ("oslo", "north", (1, 1)), keys=("a", "b"))
+
+        def steps(found):
+            return [("change", "north", "a", 2), ("change", "north", "b", 2), ("deliver", "store", "north")]
+
+        seen = []
+        shortest(net, lambda found: seen.append(shown(found)), 4, steps=steps)
+        # Of each key: not raised, under way or asked for; both under way in two orders.
+        self.assertEqual(len(seen), 3 * 3 + 1)
+
+    def test_drawn_nets_once_each(self):
+        most_seen = 0
+        for seed in range(80):
+            draw = Draw(seed + 4000)
+            net = Net(["price", "size"][:1 + draw.below(2)])
+            for _ in range(40):
+                try:
+                    net.perform(draw_deed(draw, net, WEIGHTS[seed % len(WEIGHTS)]))
+                except CacheError:
+                    pass
+            for most in (2, 3) if len(steps_of(net)) < 6 else (2,):
+                wanted = []
+                for layer in plain_search(net, most, own_steps):
+                    wanted += [shown(found) for _, found in layer]
+                seen = []
+                shortest(net, lambda found: seen.append(shown(found)), most)
+                self.assertEqual(list(dict.fromkeys(seen)), list(dict.fromkeys(wanted)))
+                most_seen = max(most_seen, len(seen))
+        self.assertGreater(most_seen, 60)
+
+    def test_messages_of_a_parent_and_a_child_in_either_order(self):
+        # North tells other numbers, in other messages, if it hears oslo first.
+        net = tree(("north", "store", 2), ("oslo", "north", 2), ("rome", "north", 2))
+        for _ in range(2):
+            net.write("price", 1)
+            net.deliver("store", "north")
+        for name in ("oslo", "rome"):
+            for _ in range(2):
+                net.deliver("north", name)
+        net.change("north", "price", 4)
+        net.read("oslo", "price", 0)
+        for most in range(5):
+            wanted = []
+            for layer in plain_search(net, most, own_steps):
+                wanted += [shown(found) for _, found in layer]
+            seen = []
+            shortest(net, lambda found: seen.append(shown(found)), most)
+            self.assertEqual(seen, list(dict.fromkeys(wanted)))
 
 
 class OwnStepsTest(unittest.TestCase):

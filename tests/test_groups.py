@@ -92,6 +92,12 @@ class AskTest(unittest.TestCase):
                     expected = best_choice(there, keys, need)
                     self.assertEqual(keys_to_ask(net, "north", keys, need), expected, (bounds, keys, need))
 
+    def test_keys_that_were_never_written(self):
+        net = tree(("north", "store", (2, 3)), keys=("price", "size"))
+        self.assertEqual([keys_to_ask(net, "north", ["price", "size"], need) for need in (5, 4, 2, 1)],
+                         [(), ("size",), ("size",), ("price", "size")])
+        self.assertEqual(keys_to_ask(net, "store", ["size"], 0), ())
+
     def test_the_store_asks_nothing(self):
         net = bounds_net(3, 1)
         for keys in groups(KEYS[:2]):

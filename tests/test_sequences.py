@@ -109,6 +109,8 @@ class FewestTest(unittest.TestCase):
             self.assertIs(check_pushes(sequence, (odd, odd)), False)
             self.assertIs(check_pushes(sequence, (pushes, (2, 4, odd))), False)
         self.assertIs(check_pushes([], ((), ())), True)
+        # Both reads can be served by the first push.
+        self.assertIs(check_pushes(["write", ("read", 0), "write", ("read", 1)], ((0, 2), (1, 3))), False)
         self.assertIs(check_pushes(["write", ("read", 0)], ((False,), (True,))), False)
 
     def test_sequences_that_are_none(self):

@@ -4,11 +4,13 @@ import os
 import sys
 import unittest
 
+from slackcache.desk import Desk
 from slackcache.errors import CacheError
 from slackcache.explorer import shortest
 from slackcache.logbook import Logbook, first_wrong
 from slackcache.net import Net
 from slackcache.receipts import moment_of_receipt, receipt_of
+from slackcache.scripts import parse_script
 from tests.drawing import WEIGHTS, Draw, draw_deed
 from tests.helpers import inner, tree
 
@@ -149,6 +151,20 @@ class WorkTest(unittest.TestCase):
         self.assertEqual(len(nets), 7)
         self.assertLess(calls.count("copy"), 3 * len(nets))
         self.assertEqual(calls.count("perform"), 6 * 9)
+
+    def test_an_undo_does_few_deeds_again(self):
+        desk = Desk()
+        desk.create("ann", "main", ["a"])
+        desk.run("ann", "main", parse_script("repeat 60\n  repeat 10\n    write a 1\n  end\nend"))
+
+        def undo(many):
+            for _ in range(many):
+                desk.undo("ann", "main")
+
+        first = calls_of(lambda: undo(1)).count("perform")
+        self.assertEqual(first, 599)
+        self.assertLess(calls_of(lambda: undo(300)).count("perform"), 300 * 65)
+        self.assertEqual(len(desk.twin("main").history), 299)
 
     def test_looks_keep_nothing(self):
         looks = 0
