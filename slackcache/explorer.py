@@ -49,7 +49,7 @@ class Place:
         self.spare = None
         return found
 
-    def leave(self):
+    def finish(self):
         """Keep nothing that only the next steps from here would need."""
         self.net = None
         self.spare = None
@@ -135,7 +135,7 @@ def explore(net, most, steps):
                 if new is not None:
                     following.append(new)
                     yield new
-            place.leave()
+            place.finish()
         frontier = following
 
 
