@@ -23,14 +23,14 @@ FORMS = {
 NOTHING = "-"
 
 
-def told(result):
+def result_text(result):
     """The text of the result of a deed."""
     if result is None:
         return "ok"
     return spaced(result) if isinstance(result, tuple) else str(result)
 
 
-def listed(rows):
+def rows_text(rows):
     """The texts of some rows, or a sign if there are none."""
     return "; ".join(rows) if rows else NOTHING
 
@@ -101,21 +101,21 @@ class Console:
         deed = with_keys(written, self.desk.net_of(name).key_names)
         if deed is None:
             raise InvalidCommand(line)
-        return told(self.desk.do(user, name, deed))
+        return result_text(self.desk.do(user, name, deed))
 
     def do_at_desk(self, command):
         head, user, name = command[:3]
         match head:
             case "create":
-                return told(self.desk.create(user, name, command[3]))
+                return result_text(self.desk.create(user, name, command[3]))
             case "undo":
-                return told(self.desk.undo(user, name))
+                return result_text(self.desk.undo(user, name))
             case "redo":
-                return told(self.desk.redo(user, name))
+                return result_text(self.desk.redo(user, name))
             case "fork":
-                return told(self.desk.fork(user, name, command[3]))
+                return result_text(self.desk.fork(user, name, command[3]))
             case _:
-                return told(self.desk.drop(user, name))
+                return result_text(self.desk.drop(user, name))
 
     def look(self, command):
         net, given = self.desk.net_of(command[1]), command[2]
@@ -126,9 +126,9 @@ class Console:
                 answer = net.answer(given)
                 return NOTHING if answer is None else spaced(answer)
             case "waits":
-                return listed([spaced(row) for row in waits(net, given)])
+                return rows_text([spaced(row) for row in waits(net, given)])
             case "free":
                 found = freeing(net, given)
-                return NOTHING if found is None else listed([spaced(link) for link in found])
+                return NOTHING if found is None else rows_text([spaced(link) for link in found])
             case _:
-                return listed([format_deed(deed) for deed in sharp(net, given, command[3])])
+                return rows_text([format_deed(deed) for deed in sharp(net, given, command[3])])

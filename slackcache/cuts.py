@@ -50,7 +50,7 @@ def distances(order, numbers):
     return found
 
 
-def ends(gaps, least):
+def outer_moments(gaps, least):
     """The first and the last moment with this distance."""
     found = [at for at, gap in enumerate(gaps) if gap == least]
     return (found[0], found[-1])
@@ -67,7 +67,7 @@ class Cut:
         # The distance from each moment, and the least of them.
         self.gaps = distances(self.steps, self.chosen)
         self.least = min(self.gaps)
-        first, last = ends(self.gaps, self.least)
+        first, last = outer_moments(self.gaps, self.least)
         self.closest = first
         # The moments at which one key has its number follow on each other, so those of all do.
         self.shown = (first, last) if self.least == 0 else None
